@@ -1,0 +1,1 @@
+"""Words and endless words, compared from the end."""

@@ -1,0 +1,26 @@
+"""Integers within bounds, and values in ascending sequence."""
+
+from roomlines.errors import InvalidNumber
+
+
+def is_number(value, least, most):
+    """Whether the value is an integer from least to most; True and False are none."""
+    return isinstance(value, int) and not isinstance(value, bool) and least <= value <= most
+
+
+def check_number(value, least, most):
+    """Raise InvalidNumber unless the value is an integer from least to most."""
+    if not is_number(value, least, most):
+        raise InvalidNumber(value)
+
+
+def are_ascending(values):
+    """Whether each value of a tuple is less than the next one."""
+    return all([values[at - 1] < values[at] for at in range(1, len(values))])
+
+
+def are_numbers_up(value, least, most):
+    """Whether the value is an ascending tuple of integers from least to most."""
+    if not isinstance(value, tuple):
+        return False
+    return all([is_number(part, least, most) for part in value]) and are_ascending(value)

@@ -1,0 +1,1 @@
+"""Machines, their least machines and the heights of their rooms."""

@@ -1,0 +1,163 @@
+"""Least machines, and the words that part unlike machines and unlike rooms."""
+
+from roomlines.errors import InvalidMachine, InvalidOperation
+from roomlines.mach.machines import check_machine, check_machines, check_rooms, first_ways, machine_of, rearranged
+
+
+def _completed(machine):
+    """Rows of doors, and the list of which rooms are good, with one room more in place of all that is missing."""
+    nowhere = machine.size
+    rows = [[nowhere if goal is None else goal for goal in row] for row in machine.doors]
+    rows.append([nowhere] * machine.letters)
+    flags = [False] * (nowhere + 1)
+    for room in machine.good:
+        flags[room] = True
+    return rows, flags
+
+
+def _divided(rows, sorts):
+    """The sorts of all rooms, divided by the sorts of the rooms to which their doors lead."""
+    numbers = {}
+    divided = []
+    for room, row in enumerate(rows):
+        key = tuple([sorts[room]] + [sorts[goal] for goal in row])
+        numbers.setdefault(key, len(numbers))
+        divided.append(numbers[key])
+    return divided
+
+
+def _first_alike(machine):
+    """The list that has for each room the least room with its future."""
+    rows, flags = _completed(machine)
+    sorts = [1 if flag else 0 for flag in flags]
+    divided = _divided(rows, sorts)
+    # Sorts are only ever divided: as soon as there are no more of them, each one is a future.
+    while max(divided) > max(sorts):
+        sorts = divided
+        divided = _divided(rows, sorts)
+    first = {}
+    for room in range(machine.size):
+        first.setdefault(divided[room], room)
+    return [first[divided[room]] for room in range(machine.size)]
+
+
+def _least_and_futures(machine):
+    """The pair of the least machine and of the tuple of the rooms of it to which the rooms go."""
+    first = _first_alike(machine)
+    rows = [[None if goal is None else first[goal] for goal in row] for row in machine.doors]
+    sequence = list(first_ways(rows))
+    doors, good = rearranged(rows, machine.good, sequence)
+    place = {room: at for at, room in enumerate(sequence)}
+    return machine_of(machine.letters, doors, good), tuple([place[room] for room in first])
+
+
+def least(machine):
+    """The least machine of the language."""
+    check_machine(machine)
+    return _least_and_futures(machine)[0]
+
+
+def futures(machine):
+    """The tuple that has for each room the room of the least machine to which it goes."""
+    check_machine(machine)
+    return _least_and_futures(machine)[1]
+
+
+def are_alike(one, other):
+    """Whether two machines have one language."""
+    check_machines(one, other)
+    return least(one) == least(other)
+
+
+def _spelled(back, pair):
+    """The word that leads to a pair, by the dict of the pairs and letters from which pairs were reached."""
+    letters = []
+    at = pair
+    while back[at] is not None:
+        at, letter = back[at]
+        letters.append(letter)
+    return tuple(letters[::-1])
+
+
+def _parting(one, other, start):
+    """The first word that leads from a pair of rooms to a good one and another one; None if there is none."""
+    rows, flags = _completed(one)
+    other_rows, other_flags = _completed(other)
+    back = {start: None}
+    queue = [start]
+    at = 0
+    while at < len(queue):
+        pair = queue[at]
+        if flags[pair[0]] != other_flags[pair[1]]:
+            return _spelled(back, pair)
+        for letter in range(one.letters):
+            goals = (rows[pair[0]][letter], other_rows[pair[1]][letter])
+            if goals not in back:
+                back[goals] = (pair, letter)
+                queue.append(goals)
+        at += 1
+    return None
+
+
+def parting_word(one, other):
+    """The first word that just one of two languages has; None for alike machines."""
+    check_machines(one, other)
+    return _parting(one, other, (0, 0))
+
+
+def parting_future(machine, one, other):
+    """The first word that is in the future of just one of two rooms; None if both have one future."""
+    check_rooms(machine, one, other)
+    return _parting(machine, machine, (one, other))
+
+
+def _counted_words(machine):
+    """The list that has for each room the number of the words that lead to it; None if they are endlessly many."""
+    waiting = [0] * machine.size
+    for row in machine.doors:
+        for goal in row:
+            if goal is not None:
+                waiting[goal] += 1
+    counts = [1] + [0] * (machine.size - 1)
+    ready = [room for room in range(machine.size) if waiting[room] == 0]
+    done = 0
+    while ready:
+        room = ready.pop()
+        done += 1
+        for goal in machine.doors[room]:
+            if goal is not None:
+                counts[goal] += counts[room]
+                waiting[goal] -= 1
+                if waiting[goal] == 0:
+                    ready.append(goal)
+    return counts if done == machine.size else None
+
+
+def has_ends(machine):
+    """Whether the language is finite."""
+    check_machine(machine)
+    return _counted_words(machine) is not None
+
+
+def language_size(machine):
+    """The number of the words of the language; None if it is not finite."""
+    check_machine(machine)
+    counts = _counted_words(machine)
+    if counts is None:
+        return None
+    return sum([counts[room] for room in machine.good])
+
+
+def each_alike(machine, machines):
+    """Yield for each of some machines whether it is alike to the machine."""
+    check_machine(machine)
+    if not isinstance(machines, tuple):
+        raise InvalidMachine("no tuple of machines")
+    for told in machines:
+        check_machine(told)
+    for told in machines:
+        if told.letters != machine.letters:
+            raise InvalidOperation("the machines have unlike numbers of letters")
+    model = least(machine)
+    for told in machines:
+        yield least(told) == model

@@ -1,0 +1,267 @@
+"""Machines: rooms, doors with letters between them, and good rooms."""
+
+from roomlines.base.checks import are_numbers_up, check_number, is_number
+from roomlines.base.words import check_letters, check_word
+from roomlines.errors import InvalidMachine, InvalidOperation, Refused
+
+MAX_ROOMS = 24
+MOST_ROOMS = 400
+MOST_LENGTH = 8
+
+
+def _is_row(letters, size, row):
+    """Whether the value is a row of doors of a machine with so many letters and rooms."""
+    if not isinstance(row, tuple) or len(row) != letters:
+        return False
+    return all([goal is None or is_number(goal, 0, size - 1) for goal in row])
+
+
+def _are_doors(letters, doors):
+    """Whether the value is the doors of a machine with so many letters."""
+    if not isinstance(doors, tuple) or not 1 <= len(doors) <= MAX_ROOMS:
+        return False
+    return all([_is_row(letters, len(doors), row) for row in doors])
+
+
+def _check_parts(letters, doors, good):
+    """Raise the errors of values of which no machine can be made."""
+    check_letters(letters)
+    if not _are_doors(letters, doors):
+        raise InvalidMachine("no rows of doors")
+    if not are_numbers_up(good, 0, len(doors) - 1):
+        raise InvalidMachine("no ascending tuple of rooms")
+
+
+def first_ways(doors):
+    """The dict from each room that is led to, in the sequence of first words, to its first word."""
+    words = {0: ()}
+    queue = [0]
+    at = 0
+    while at < len(queue):
+        room = queue[at]
+        for letter, goal in enumerate(doors[room]):
+            if goal is not None and goal not in words:
+                words[goal] = words[room] + (letter,)
+                queue.append(goal)
+        at += 1
+    return words
+
+
+def _ways(doors):
+    """The list that has for each room the ascending list of the pairs (letter, room) of the doors to it."""
+    ways = [[] for _ in doors]
+    for room, row in enumerate(doors):
+        for letter, goal in enumerate(row):
+            if goal is not None:
+                ways[goal].append((letter, room))
+    return [sorted(pairs) for pairs in ways]
+
+
+def _alive(doors, good):
+    """The dict of the rooms from which some word leads to a good room."""
+    ways = _ways(doors)
+    found = {room: True for room in good}
+    queue = list(good)
+    while queue:
+        goal = queue.pop()
+        for _, room in ways[goal]:
+            if room not in found:
+                found[room] = True
+                queue.append(room)
+    return found
+
+
+def _least_missing(doors, found):
+    """The least room that is not among the found ones; None if there is none."""
+    missing = [room for room in range(len(doors)) if room not in found]
+    return missing[0] if missing else None
+
+
+def rearranged(doors, good, sequence):
+    """The doors and the good rooms, if the rooms of a sequence alone are left, numbered by it."""
+    place = {room: at for at, room in enumerate(sequence)}
+    # No door has the goal None, which has no place either: so a missing door stays missing.
+    rows = tuple([tuple([place.get(goal) for goal in doors[room]]) for room in sequence])
+    return rows, tuple(sorted([place[room] for room in good if room in place]))
+
+
+class Machine:
+    """A machine. It never changes."""
+
+    def __init__(self, letters, doors, good):
+        _check_parts(letters, doors, good)
+        lost = _least_missing(doors, first_ways(doors))
+        if lost is not None:
+            raise Refused(("lost", lost))
+        stuck = _least_missing(doors, _alive(doors, good))
+        if stuck is not None:
+            raise Refused(("stuck", stuck))
+        self._letters = letters
+        self._doors = doors
+        self._good = good
+
+    @classmethod
+    def trimmed(cls, letters, doors, good):
+        """The machine without lost and stuck rooms; the other ones keep their sequence."""
+        _check_parts(letters, doors, good)
+        alive = _alive(doors, good)
+        if 0 not in alive:
+            raise Refused(("empty",))
+        left = [room for room in sorted(first_ways(doors)) if room in alive]
+        rows, marked = rearranged(doors, good, left)
+        return cls(letters, rows, marked)
+
+    @property
+    def letters(self):
+        """The number of the letters."""
+        return self._letters
+
+    @property
+    def doors(self):
+        """The rows of the doors, one for each room."""
+        return self._doors
+
+    @property
+    def good(self):
+        """The ascending tuple of the good rooms."""
+        return self._good
+
+    @property
+    def size(self):
+        """The number of the rooms."""
+        return len(self._doors)
+
+    def __call__(self, word):
+        """Whether the word leads to a good room."""
+        check_word(self._letters, word)
+        return room_behind(self, 0, word) in self._good
+
+    def leads(self, room, word):
+        """The room to which the word leads from a room; None if a door is missing."""
+        check_room(self, room)
+        check_word(self._letters, word)
+        return room_behind(self, room, word)
+
+    def ways_in(self, room):
+        """The ascending tuple of the pairs (letter, other room) of all doors that lead to the room."""
+        check_room(self, room)
+        return tuple(_ways(self._doors)[room])
+
+    def __eq__(self, other):
+        return (isinstance(other, Machine) and self._letters == other._letters
+                and self._doors == other._doors and self._good == other._good)
+
+    def __str__(self):
+        return f"machine of {self._letters} letters: {len(self._doors)} rooms, {len(self._good)} good"
+
+
+def machine_of(letters, doors, good):
+    """The machine of right parts, which can have more rooms than a machine that is told."""
+    made = Machine(1, ((0,),), (0,))
+    made._letters = letters
+    made._doors = doors
+    made._good = good
+    return made
+
+
+def check_machine(machine):
+    """Raise InvalidMachine unless the value is a machine."""
+    if not isinstance(machine, Machine):
+        raise InvalidMachine("no machine")
+
+
+def check_machines(one, other):
+    """Raise the errors of two machines that must have equally many letters."""
+    check_machine(one)
+    check_machine(other)
+    if one.letters != other.letters:
+        raise InvalidOperation("the machines have unlike numbers of letters")
+
+
+def check_room(machine, room):
+    """Raise InvalidNumber unless the value is a room of the machine."""
+    check_number(room, 0, machine.size - 1)
+
+
+def check_rooms(machine, one, other):
+    """Raise the errors of a machine and two values that must be rooms of it."""
+    check_machine(machine)
+    check_room(machine, one)
+    check_room(machine, other)
+
+
+def room_behind(machine, room, word):
+    """The room to which a word of any length leads from a room; None if a door is missing."""
+    at = room
+    for letter in word:
+        if at is None:
+            return None
+        at = machine.doors[at][letter]
+    return at
+
+
+def all_ways(machine):
+    """The list that has for each room the ascending list of the pairs (letter, other room) of the doors to it."""
+    return _ways(machine.doors)
+
+
+def rooms_ahead(machine, room, word):
+    """The list of the rooms from which a word of any length leads to a room."""
+    ways = all_ways(machine)
+    rooms = [room]
+    for letter in word[::-1]:
+        rooms = [source for goal in rooms for mark, source in ways[goal] if mark == letter]
+    return rooms
+
+
+def first_words(machine):
+    """The tuple of the first words of all rooms, by rooms."""
+    check_machine(machine)
+    words = first_ways(machine.doors)
+    return tuple([words[room] for room in range(machine.size)])
+
+
+def numbered(machine):
+    """The machine with its rooms in the sequence of their first words."""
+    check_machine(machine)
+    rows, marked = rearranged(machine.doors, machine.good, list(first_ways(machine.doors)))
+    return machine_of(machine.letters, rows, marked)
+
+
+def are_renamed(one, other):
+    """Whether two machines become one numbered machine."""
+    check_machines(one, other)
+    return numbered(one) == numbered(other)
+
+
+def _words_into(machine, goals, length):
+    """Yield the words with at most so many letters that lead to one of the goals, in order."""
+    ways = all_ways(machine)
+    stack = [((), goals)]
+    while stack:
+        word, rooms = stack.pop()
+        if 0 in rooms:
+            yield word
+        if len(word) < length:
+            # The stack gives back first what it got last, so the greatest letter goes there first.
+            for letter in range(machine.letters - 1, -1, -1):
+                before = [source for goal in rooms for mark, source in ways[goal] if mark == letter]
+                if before:
+                    stack.append(((letter,) + word, before))
+
+
+def words_to_room(machine, room, length):
+    """The tuple of all words with at most so many letters that lead to the room, in order."""
+    check_machine(machine)
+    check_room(machine, room)
+    check_number(length, 0, MOST_LENGTH)
+    goals = [room]
+    return tuple(_words_into(machine, goals, length))
+
+
+def beginnings(machine, length):
+    """Yield all words with at most so many letters that lead to some room, in order."""
+    check_machine(machine)
+    check_number(length, 0, MOST_LENGTH)
+    goals = list(range(machine.size))
+    yield from _words_into(machine, goals, length)

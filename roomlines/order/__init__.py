@@ -1,0 +1,1 @@
+"""Which rooms of a machine are before others."""

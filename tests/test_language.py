@@ -1,0 +1,152 @@
+"""The files of the package keep to the plain part of Python in which it is written."""
+
+import ast
+import builtins
+from pathlib import Path
+from unittest import TestCase
+
+from roomlines import errors
+from roomlines.base import endless, words
+from roomlines.mach import heights, least, machines
+from roomlines.order import before
+
+ROOT = Path(__file__).resolve().parent.parent / "roomlines"
+BUILTINS = set("""len range enumerate zip min max sum abs sorted reversed int str bool list tuple dict set isinstance
+    repr any all divmod property classmethod ValueError TypeError KeyError IndexError LookupError ArithmeticError
+    OverflowError""".split())
+METHODS = set("append extend pop get items join setdefault index count".split())
+NODES = set("""Module Expr Constant ImportFrom alias FunctionDef arguments arg ClassDef Assign AugAssign Name Load Store
+    Return Raise If While For Break Continue Pass Yield YieldFrom Call keyword Attribute Subscript Slice Tuple List Dict
+    Set ListComp SetComp DictComp comprehension IfExp BoolOp And Or UnaryOp Not USub Invert BinOp Add Sub Mult FloorDiv
+    Mod Pow LShift RShift BitOr BitAnd Compare Eq NotEq Lt LtE Gt GtE Is IsNot In NotIn JoinedStr
+    FormattedValue""".split())
+METHOD_NAMES = set("__init__ __eq__ __str__ __len__ __call__ __add__".split())
+INTERFACE = {
+    errors: """RoomError InvalidWord InvalidHeight InvalidMachine InvalidReader InvalidRooms InvalidLines InvalidOrder
+        InvalidOperation InvalidName ParseError InvalidNumber UnknownName TooMany Refused NothingToUndo""",
+    words: """is_word compare_words common_end is_end sorted_words words_of words_to word_place word_at""",
+    endless: "Endless root_of is_height compare ends_with agree each_end",
+    machines: "Machine first_words numbered are_renamed words_to_room beginnings",
+    least: """least futures are_alike parting_word parting_future has_ends language_size each_alike""",
+    heights: "low_height high_height all_heights is_met last_doors word_near does_span",
+    before: """relation is_before are_mixed order_of mixed_pairs mixed_paper is_mixed_paper does_keep_doors is_order"""}
+OWN_METHODS = {endless.Endless: "letters ring tail end __add__ __eq__ __len__ __str__ __init__",
+               machines.Machine: "trimmed letters doors good size leads ways_in __call__ __eq__ __str__ __init__"}
+
+
+def files():
+    """The paths of the files of the package."""
+    return sorted(ROOT.rglob("*.py"))
+
+
+def trees():
+    """The pairs of each file's path and its tree."""
+    return [(path, ast.parse(path.read_text(encoding="ascii"))) for path in files()]
+
+
+class LanguageTests(TestCase):
+
+    def test_folders_and_files(self):
+        found = [path for path in ROOT.rglob("*") if "__pycache__" not in path.parts]
+        for path in found:
+            if path.is_dir():
+                self.assertTrue((path / "__init__.py").is_file(), path)
+            else:
+                self.assertRegex(path.name, r"\A[a-z][a-z0-9_]*\.py\Z|\A__init__\.py\Z")
+        self.assertLessEqual(len(found), 100)
+
+    def test_characters_and_sizes(self):
+        for path in files():
+            text = path.read_text(encoding="ascii")
+            self.assertTrue(all(sign == "\n" or " " <= sign <= "~" for sign in text), path)
+            rows = text.split("\n")
+            self.assertLessEqual(len(rows) - 1, 399, path)
+            self.assertLessEqual(max(map(len, rows)), 120, path)
+        for path, tree in trees():
+            for node in ast.walk(tree):
+                if isinstance(node, ast.FunctionDef):
+                    self.assertLessEqual(node.end_lineno - node.lineno + 1, 40, (path, node.name))
+
+    def test_nodes(self):
+        for path, tree in trees():
+            for node in ast.walk(tree):
+                name = type(node).__name__
+                self.assertIn(name, NODES, (path, getattr(node, "lineno", 0)))
+                if isinstance(node, ast.Constant):
+                    self.assertIn(type(node.value), (int, str, bool, type(None)), path)
+                    self.assertNotIn("%", node.value if isinstance(node.value, str) else "", path)
+                if isinstance(node, ast.Compare) and isinstance(node.ops[0], (ast.Is, ast.IsNot)):
+                    self.assertIsNone(node.comparators[0].value)
+                if isinstance(node, ast.BinOp) and isinstance(node.op, ast.Pow):
+                    self.assertIsInstance(node.right, ast.Constant)
+                if isinstance(node, ast.Raise):
+                    self.assertIsInstance(node.exc, ast.Call)
+
+    def test_names(self):
+        own = {node.name for _, tree in trees() for node in ast.walk(tree) if isinstance(node, ast.FunctionDef)}
+        for path, tree in trees():
+            for node in ast.walk(tree):
+                if isinstance(node, ast.Name):
+                    if hasattr(builtins, node.id):
+                        self.assertIn(node.id, BUILTINS, (path, node.lineno))
+                        self.assertIsInstance(node.ctx, ast.Load, (path, node.lineno))
+                if isinstance(node, ast.arg):
+                    self.assertFalse(hasattr(builtins, node.arg), (path, node.lineno))
+                if isinstance(node, ast.FunctionDef):
+                    self.assertTrue(node.name in METHOD_NAMES or not hasattr(builtins, node.name), node.name)
+                    self.assertTrue(node.name in METHOD_NAMES or not node.name.startswith("__"), node.name)
+                if isinstance(node, ast.Call) and isinstance(node.func, ast.Attribute):
+                    self.assertTrue(node.func.attr in METHODS or node.func.attr in own, (path, node.lineno))
+
+    def test_imports(self):
+        defined = {}
+        imported = {}
+        for path, tree in trees():
+            name = ".".join(("roomlines",) + path.relative_to(ROOT).with_suffix("").parts)
+            defined[name] = {node.name for node in tree.body if isinstance(node, (ast.FunctionDef, ast.ClassDef))}
+            defined[name] |= {node.targets[0].id for node in tree.body if isinstance(node, ast.Assign)}
+            imported[name] = [(node.module, alias.name, alias.asname) for node in tree.body
+                              if isinstance(node, ast.ImportFrom) for alias in node.names]
+            taken = {alias for _, alias, _ in imported[name]}
+            for node in ast.walk(tree):
+                if isinstance(node, ast.Name) and isinstance(node.ctx, ast.Store):
+                    self.assertNotIn(node.id, taken, path)
+                if isinstance(node, ast.arg):
+                    self.assertNotIn(node.arg, taken, path)
+            used = {node.id for node in ast.walk(tree) if isinstance(node, ast.Name)}
+            self.assertLessEqual(taken, used, path)
+        done = []
+        while len(done) < len(imported):
+            ready = [name for name in imported if name not in done
+                     and all(source in done for source, _, _ in imported[name])]
+            self.assertTrue(ready, "files import from each other")
+            done.extend(ready)
+        for name, rows in imported.items():
+            for source, word, renamed in rows:
+                self.assertIn(word, defined[source], name)
+                self.assertIsNone(renamed)
+
+    def test_generators_are_iterated_at_once(self):
+        makers = {node.name for _, tree in trees() for node in ast.walk(tree) if isinstance(node, ast.FunctionDef)
+                  and any(isinstance(part, (ast.Yield, ast.YieldFrom)) for part in ast.walk(node))}
+        self.assertLessEqual({"words_of", "words_to", "each_end", "beginnings", "each_alike", "mixed_pairs"}, makers)
+        for path, tree in trees():
+            fine = set()
+            for node in ast.walk(tree):
+                if isinstance(node, (ast.For, ast.comprehension)):
+                    fine.add(node.iter)
+                if isinstance(node, ast.YieldFrom):
+                    fine.add(node.value)
+                if isinstance(node, ast.Call) and isinstance(node.func, ast.Name) and node.func.id in ("list", "tuple"):
+                    fine.add(node.args[0])
+            for node in ast.walk(tree):
+                if isinstance(node, ast.Call) and isinstance(node.func, ast.Name) and node.func.id in makers:
+                    self.assertIn(node, fine, (path, node.lineno))
+
+    def test_interface(self):
+        for module, names in INTERFACE.items():
+            for name in names.split():
+                self.assertEqual(getattr(module, name).__module__, module.__name__, name)
+        for owner, names in OWN_METHODS.items():
+            for name in names.split():
+                self.assertIn(name, vars(owner))
