@@ -169,11 +169,13 @@ class OrderTests(Checks):
         self.assertEqual(len(order_of(ring(24))), 0)
 
     def test_mixed_pairs(self):
-        for machine in DRAWN:
+        turned = tuple(shuffled(FORK, seed) for seed in range(20))
+        for machine in DRAWN + turned:
             lot = order_of(machine)
             told = [(one, other) for one in range(machine.size) for other in range(one + 1, machine.size)
                     if (one, other) not in lot and (other, one) not in lot]
             self.assertEqual(list(mixed_pairs(machine)), told)
+        self.assertEqual([list(mixed_pairs(machine)) for machine in turned], [[]] * 20)
         self.assertEqual(list(mixed_pairs(THIRDS)), [(0, 1), (0, 2), (1, 2)])
 
     def test_part_of_an_order(self):

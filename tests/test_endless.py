@@ -259,6 +259,7 @@ class HeightTests(Checks):
         for value in NO_HEIGHTS:
             for call in (compare, agree):
                 self.fails(InvalidHeight, call, 2, value, None)
+                self.fails(InvalidHeight, call, 2, value, (0,))
                 self.fails(InvalidHeight, call, 2, (0,), value)
                 self.fails(InvalidHeight, call, 2, ONES, value)
             self.fails(InvalidHeight, ends_with, 2, value, None)

@@ -163,6 +163,7 @@ class PartingTests(Checks):
         for value in NO_MACHINES:
             for call in (are_alike, parting_word):
                 self.fails(InvalidMachine, call, value, None)
+                self.fails(InvalidMachine, call, value, ALL)
                 self.fails(InvalidMachine, call, ALL, value)
                 self.fails(InvalidMachine, call, FORK, value)
             self.fails(InvalidMachine, parting_future, value, None, None)
@@ -222,6 +223,8 @@ class EachAlikeTests(Checks):
     def test_wrong_values(self):
         for value in NO_MACHINES:
             self.fails(InvalidMachine, first_of(each_alike), value, None)
+            self.fails(InvalidMachine, first_of(each_alike), value, ())
+            self.fails(InvalidMachine, first_of(each_alike), value, (ALL,))
             self.fails(InvalidMachine, first_of(each_alike), ALL, (FORK, value))
             self.fails(InvalidMachine, first_of(each_alike), ALL, (value, ALL))
         for value in NO_TUPLES:

@@ -247,6 +247,7 @@ class WordTests(Checks):
             self.fails(InvalidMachine, first_words, value)
             self.fails(InvalidMachine, numbered, value)
             self.fails(InvalidMachine, are_renamed, value, None)
+            self.fails(InvalidMachine, are_renamed, value, ALL)
             self.fails(InvalidMachine, are_renamed, ALL, value)
             self.fails(InvalidMachine, words_to_room, value, None, None)
             self.fails(InvalidMachine, first_of(beginnings), value, None)

@@ -108,7 +108,8 @@ def last_letters(height, many):
 
 def _telling_ends(one, other):
     """Ends of two heights that are compared as the heights are, and agree in as many last letters."""
-    many = len(one) + len(other) + 1
+    # Endless words are equal if they agree in the letters of both rings and of the longer tail.
+    many = len(one) + len(other)
     return last_letters(one, many), last_letters(other, many)
 
 
@@ -149,6 +150,13 @@ def _check_height(letters, height):
         raise InvalidHeight("no height of the letters")
 
 
+def _check_heights(letters, one, other):
+    """Raise the errors of letters and of two heights."""
+    check_letters(letters)
+    _check_height(letters, one)
+    _check_height(letters, other)
+
+
 def is_height(letters, value):
     """Whether the value is a word or an endless word of the letters."""
     check_letters(letters)
@@ -157,9 +165,7 @@ def is_height(letters, value):
 
 def compare(letters, one, other):
     """-1, 0 or 1, as one height is ahead of the other, equal to it, or behind it."""
-    check_letters(letters)
-    _check_height(letters, one)
-    _check_height(letters, other)
+    _check_heights(letters, one, other)
     return order_heights(one, other)
 
 
@@ -173,9 +179,7 @@ def ends_with(letters, height, word):
 
 def agree(letters, one, other):
     """How many last letters two heights have in common; None for two equal endless words."""
-    check_letters(letters)
-    _check_height(letters, one)
-    _check_height(letters, other)
+    _check_heights(letters, one, other)
     return count_agreeing(one, other)
 
 

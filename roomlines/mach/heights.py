@@ -46,16 +46,20 @@ def height_ranks(machine):
         high = new_high
 
 
-def _doors_of(machine, side):
-    """The list that has for each room its last door, None if there is none."""
-    ways = all_ways(machine)
-    low, high = height_ranks(machine)
-    ranks = low if side == "low" else high
+def _fitting(ways, ranks, side):
+    """The list that has for each room its last door, by the ranks of the heights of the side; None if there is none."""
     doors = []
     for pairs, key in zip(ways, _keys(ways, ranks, side)):
         fitting = [(letter, source) for letter, source in pairs if (letter, ranks[source]) == key]
         doors.append(min(fitting) if fitting else None)
     return doors
+
+
+def _doors_of(machine):
+    """The pair of the lists of the last doors of all rooms, in the sequence of the sides."""
+    ways = all_ways(machine)
+    low, high = height_ranks(machine)
+    return _fitting(ways, low, "low"), _fitting(ways, high, "high")
 
 
 def _height_by(letters, doors, room):
@@ -75,7 +79,7 @@ def _height_by(letters, doors, room):
 
 def height_of(machine, room, side):
     """The height of a side of a room."""
-    return _height_by(machine.letters, _doors_of(machine, side), room)
+    return _height_by(machine.letters, _doors_of(machine)[SIDES.index(side)], room)
 
 
 def low_height(machine, room):
@@ -95,8 +99,7 @@ def high_height(machine, room):
 def all_heights(machine):
     """The tuple that has for each room the pair of its low height and its high height."""
     check_machine(machine)
-    low = _doors_of(machine, "low")
-    high = _doors_of(machine, "high")
+    low, high = _doors_of(machine)
     letters = machine.letters
     return tuple([(_height_by(letters, low, room), _height_by(letters, high, room)) for room in range(machine.size)])
 
@@ -113,12 +116,11 @@ def last_doors(machine, *, side="low"):
     """The tuple that has for each room its last door (letter, other room), None if there is none."""
     check_machine(machine)
     check_side(side)
-    return tuple(_doors_of(machine, side))
+    return tuple(_doors_of(machine)[SIDES.index(side)])
 
 
-def near_word(machine, room, many, side):
-    """The first word to the room that is its height, or agrees with it in at least so many last letters."""
-    height = height_of(machine, room, side)
+def near_word(machine, room, height, many):
+    """The first word to the room that is a height of it, or agrees with it in at least so many last letters."""
     if isinstance(height, tuple) and len(height) < many:
         return height
     near = last_letters(height, many)
@@ -133,7 +135,7 @@ def word_near(machine, room, many, *, side="low"):
     check_room(machine, room)
     check_number(many, 0, MOST_NEAR)
     check_side(side)
-    return near_word(machine, room, many, side)
+    return near_word(machine, room, height_of(machine, room, side), many)
 
 
 def does_span(machine, room, word):
@@ -141,6 +143,5 @@ def does_span(machine, room, word):
     check_machine(machine)
     check_room(machine, room)
     check_word(machine.letters, word)
-    if order_heights(height_of(machine, room, "low"), word) > 0:
-        return False
-    return order_heights(word, height_of(machine, room, "high")) <= 0
+    low, high = all_heights(machine)[room]
+    return order_heights(low, word) <= 0 and order_heights(word, high) <= 0

@@ -4,7 +4,7 @@ from roomlines.base.checks import are_ascending, check_number, is_number
 from roomlines.base.endless import count_agreeing
 from roomlines.base.words import is_spelled, order_words
 from roomlines.errors import UnknownName
-from roomlines.mach.heights import height_of, height_ranks, near_word
+from roomlines.mach.heights import all_heights, height_ranks, near_word
 from roomlines.mach.machines import MOST_ROOMS, all_ways, check_machine, check_rooms, room_behind
 
 RELATIONS = ("before", "behind", "mixed", "same")
@@ -90,12 +90,12 @@ def mixed_pairs(machine):
                 yield one, other
 
 
-def _words_across(machine, one, other):
+def _words_across(machine, heights, one, other):
     """Words to two rooms, the first one behind the second one, if the first room is not before the second one."""
-    high = height_of(machine, one, "high")
-    low = height_of(machine, other, "low")
+    high = heights[one][1]
+    low = heights[other][0]
     many = count_agreeing(high, low) + 1
-    return near_word(machine, one, many, "high"), near_word(machine, other, many, "low")
+    return near_word(machine, one, high, many), near_word(machine, other, low, many)
 
 
 def mixed_paper(machine, one, other):
@@ -103,8 +103,9 @@ def mixed_paper(machine, one, other):
     told = relation(machine, one, other)
     if told != "mixed":
         return (told,)
-    late, early = _words_across(machine, one, other)
-    late_other, early_one = _words_across(machine, other, one)
+    heights = all_heights(machine)
+    late, early = _words_across(machine, heights, one, other)
+    late_other, early_one = _words_across(machine, heights, other, one)
     # Two words lead to each of the rooms, in unlike sequences; so one of two triples is in order.
     if order_words(early_one, early) < 0:
         return "mixed", early_one, early, late
