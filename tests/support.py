@@ -1,12 +1,14 @@
 """Machines, wrong values and plain searches that the tests share."""
 
 from functools import lru_cache
-from itertools import product
+from itertools import combinations, permutations, product
 from random import Random
 
 from roomlines.base.endless import Endless
 from roomlines.errors import Refused
 from roomlines.mach.machines import Machine
+from roomlines.order.before import order_of
+from roomlines.order.readers import Reader
 
 ALL = Machine(2, ((0, 0),), (0,))
 EVEN = Machine(2, ((1, 0), (0, 1)), (0,))
@@ -140,3 +142,99 @@ def plain_order(one, other, many=200):
     """-1, 0 or 1: how two heights lie, by so many last letters."""
     first, second = spread(one, many), spread(other, many)
     return (first > second) - (first < second)
+
+
+def order_lot(machine):
+    """The set of the pairs (q, r) with q before r."""
+    return set(order_of(machine, road="doors"))
+
+
+@lru_cache(maxsize=None)
+def arrangements(rooms):
+    """All tuples of tuples, none of them empty, in which each of so many rooms stands once."""
+    told = []
+    for sequence in permutations(range(rooms)):
+        for cuts in product((False, True), repeat=rooms - 1):
+            rows = [[sequence[0]]]
+            for room, cut in zip(sequence[1:], cuts):
+                if cut:
+                    rows.append([])
+                rows[-1].append(room)
+            told.append(tuple(tuple(row) for row in rows))
+    return tuple(told)
+
+
+def lots_of(rooms):
+    """All ascending tuples of some of so many rooms, not empty."""
+    return [told for many in range(1, rooms + 1) for told in combinations(range(rooms), many)]
+
+
+def random_readers(seed, many, *, most_rooms=6, most_letters=4, doors_each=(0, 0, 1, 1, 2, 3)):
+    """Readers with doors that are drawn, always the same ones for one seed."""
+    dice = Random(seed)
+    made = []
+    while len(made) < many:
+        rooms, letters = dice.randint(1, most_rooms), dice.randint(1, most_letters)
+        doors = tuple(tuple(tuple(sorted(dice.sample(range(rooms), min(rooms, dice.choice(doors_each)))))
+                            for _ in range(letters)) for _ in range(rooms))
+        good = tuple(room for room in range(rooms) if dice.random() < 0.5)
+        try:
+            made.append(Reader(letters, doors, good))
+        except Refused:
+            pass
+    return made
+
+
+def lined_readers(seed, many, *, most_rooms=6, most_letters=3):
+    """Readers whose rooms lie in the line 0, 1, ..: doors with one letter go up with the rooms that they come from."""
+    dice = Random(seed)
+    made = []
+    while len(made) < many:
+        rooms, letters = dice.randint(2, most_rooms), dice.randint(1, most_letters)
+        cuts = [1] + sorted(dice.randint(1, rooms - 1) for _ in range(letters - 1)) + [rooms - 1]
+        table = [[set() for _ in range(letters)] for _ in range(rooms)]
+        for letter in range(letters):
+            source, goal = dice.randint(0, 1), cuts[letter]
+            while source < rooms and goal <= cuts[letter + 1]:
+                if dice.random() < 0.85:
+                    table[source][letter].add(goal)
+                if dice.random() < 0.5:
+                    source += 1
+                else:
+                    goal += 1
+        doors = tuple(tuple(tuple(sorted(goals)) for goals in row) for row in table)
+        try:
+            made.append(Reader(letters, doors, tuple(room for room in range(rooms) if dice.random() < 0.5)))
+        except Refused:
+            pass
+    return made
+
+
+def random_orders(seed, size, many):
+    """Strict orders of so many rooms that are drawn, as ascending tuples."""
+    dice = Random(seed)
+    told = []
+    for _ in range(many):
+        sequence = dice.sample(range(size), size)
+        share = dice.choice((0, 0.2, 0.5, 0.8, 1))
+        lot = {(sequence[at], sequence[to]) for at in range(size) for to in range(at + 1, size)
+               if dice.random() < share}
+        told.append(tuple(sorted(closed(lot))))
+    return told
+
+
+def closed(lot):
+    """The set of pairs with all that follow."""
+    while True:
+        more = lot | {(one, third) for one, other in lot for again, third in lot if other == again}
+        if more == lot:
+            return lot
+        lot = more
+
+
+def led_set(reader, word):
+    """The set of the rooms to which a word leads."""
+    rooms = {0}
+    for letter in word:
+        rooms = {goal for room in rooms for goal in reader.doors[room][letter]}
+    return rooms

@@ -7,8 +7,9 @@ from unittest import TestCase
 
 from roomlines import errors
 from roomlines.base import endless, words
+from roomlines.find import endings
 from roomlines.mach import heights, least, machines
-from roomlines.order import before
+from roomlines.order import before, lines, readers
 
 ROOT = Path(__file__).resolve().parent.parent / "roomlines"
 BUILTINS = set("""len range enumerate zip min max sum abs sorted reversed int str bool list tuple dict set isinstance
@@ -19,8 +20,8 @@ NODES = set("""Module Expr Constant ImportFrom alias FunctionDef arguments arg C
     Return Raise If While For Break Continue Pass Yield YieldFrom Call keyword Attribute Subscript Slice Tuple List Dict
     Set ListComp SetComp DictComp comprehension IfExp BoolOp And Or UnaryOp Not USub Invert BinOp Add Sub Mult FloorDiv
     Mod Pow LShift RShift BitOr BitAnd Compare Eq NotEq Lt LtE Gt GtE Is IsNot In NotIn JoinedStr
-    FormattedValue""".split())
-METHOD_NAMES = set("__init__ __eq__ __str__ __len__ __call__ __add__".split())
+    FormattedValue Lambda""".split())
+METHOD_NAMES = set("__init__ __eq__ __str__ __len__ __call__ __add__ __contains__".split())
 INTERFACE = {
     errors: """RoomError InvalidWord InvalidHeight InvalidMachine InvalidReader InvalidRooms InvalidLines InvalidOrder
         InvalidOperation InvalidName ParseError InvalidNumber UnknownName TooMany Refused NothingToUndo""",
@@ -29,9 +30,16 @@ INTERFACE = {
     machines: "Machine first_words numbered are_renamed words_to_room beginnings",
     least: """least futures are_alike parting_word parting_future has_ends language_size each_alike""",
     heights: "low_height high_height all_heights is_met last_doors word_near does_span",
-    before: """relation is_before are_mixed order_of mixed_pairs mixed_paper is_mixed_paper does_keep_doors is_order"""}
+    before: """relation is_before are_mixed order_of mixed_pairs mixed_paper is_mixed_paper does_keep_doors is_order""",
+    lines: """line_number lines are_lines are_fewest_lines side_by_side is_side_by_side earlier_of later_of
+        one_line_order longest_line steps mixed_sets""",
+    readers: """Reader is_strict_order does_keep line_order order_lines are_order_lines sets_of set_bound
+        are_stretches""",
+    endings: "rooms_behind stretches door_counts door_goals Index first_missing"}
 OWN_METHODS = {endless.Endless: "letters ring tail end __add__ __eq__ __len__ __str__ __init__",
-               machines.Machine: "trimmed letters doors good size leads ways_in __call__ __eq__ __str__ __init__"}
+               machines.Machine: "trimmed letters doors good size leads ways_in __call__ __eq__ __str__ __init__",
+               readers.Reader: "of_machine letters doors good size rooms_of __call__ __eq__ __str__ __init__",
+               endings.Index: "source lines further number __call__ __contains__ __len__ __eq__ __init__"}
 
 
 def files():
@@ -141,6 +149,17 @@ class LanguageTests(TestCase):
                     fine.add(node.args[0])
             for node in ast.walk(tree):
                 if isinstance(node, ast.Call) and isinstance(node.func, ast.Name) and node.func.id in makers:
+                    self.assertIn(node, fine, (path, node.lineno))
+
+    def test_sets_are_taken_at_once(self):
+        for path, tree in trees():
+            fine = set()
+            for node in ast.walk(tree):
+                if isinstance(node, ast.Call) and isinstance(node.func, ast.Name) and node.func.id in ("sorted", "len"):
+                    fine.add(node.args[0])
+            for node in ast.walk(tree):
+                called = isinstance(node, ast.Call) and isinstance(node.func, ast.Name) and node.func.id == "set"
+                if called or isinstance(node, (ast.Set, ast.SetComp)):
                     self.assertIn(node, fine, (path, node.lineno))
 
     def test_interface(self):

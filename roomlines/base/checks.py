@@ -1,4 +1,4 @@
-"""Integers within bounds, and values in ascending sequence."""
+"""Integers within bounds, and values in ascending sequence or in rows."""
 
 from roomlines.errors import InvalidNumber
 
@@ -24,3 +24,11 @@ def are_numbers_up(value, least, most):
     if not isinstance(value, tuple):
         return False
     return all([is_number(part, least, most) for part in value]) and are_ascending(value)
+
+
+def has_all_once(value, size):
+    """Whether the value is a tuple of tuples, none of them empty, in which each of so many rooms stands just once."""
+    if not isinstance(value, tuple) or not all([isinstance(row, tuple) and len(row) > 0 for row in value]):
+        return False
+    rooms = [room for row in value for room in row]
+    return all([is_number(room, 0, size - 1) for room in rooms]) and sorted(rooms) == list(range(size))

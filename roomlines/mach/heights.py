@@ -46,10 +46,10 @@ def height_ranks(machine):
         high = new_high
 
 
-def _fitting(ways, ranks, side):
-    """The list that has for each room its last door, by the ranks of the heights of the side; None if there is none."""
+def fitting_doors(ways, ranks, keys):
+    """The list that has for each room the least pair (letter, other room) of its key; None if there is none."""
     doors = []
-    for pairs, key in zip(ways, _keys(ways, ranks, side)):
+    for pairs, key in zip(ways, keys):
         fitting = [(letter, source) for letter, source in pairs if (letter, ranks[source]) == key]
         doors.append(min(fitting) if fitting else None)
     return doors
@@ -59,11 +59,12 @@ def _doors_of(machine):
     """The pair of the lists of the last doors of all rooms, in the sequence of the sides."""
     ways = all_ways(machine)
     low, high = height_ranks(machine)
-    return _fitting(ways, low, "low"), _fitting(ways, high, "high")
+    return (fitting_doors(ways, low, _keys(ways, low, "low")),
+            fitting_doors(ways, high, _keys(ways, high, "high")))
 
 
-def _height_by(letters, doors, room):
-    """The height of a room that its last door and those behind it spell."""
+def height_by(letters, doors, room):
+    """The height of a room that its last door and those ahead of it spell."""
     reached = {}
     spelled = []
     at = room
@@ -79,7 +80,7 @@ def _height_by(letters, doors, room):
 
 def height_of(machine, room, side):
     """The height of a side of a room."""
-    return _height_by(machine.letters, _doors_of(machine)[SIDES.index(side)], room)
+    return height_by(machine.letters, _doors_of(machine)[SIDES.index(side)], room)
 
 
 def low_height(machine, room):
@@ -101,7 +102,7 @@ def all_heights(machine):
     check_machine(machine)
     low, high = _doors_of(machine)
     letters = machine.letters
-    return tuple([(_height_by(letters, low, room), _height_by(letters, high, room)) for room in range(machine.size)])
+    return tuple([(height_by(letters, low, room), height_by(letters, high, room)) for room in range(machine.size)])
 
 
 def is_met(machine, room, *, side="low"):

@@ -41,9 +41,11 @@ def _first_alike(machine):
     return [first[divided[room]] for room in range(machine.size)]
 
 
-def _least_and_futures(machine):
-    """The pair of the least machine and of the tuple of the rooms of it to which the rooms go."""
-    first = _first_alike(machine)
+def glued(machine, first):
+    """The numbered machine in which each room is one with a room of its future, and the tuple of where the rooms go.
+
+    The list tells for each room the least one with which it is one; so do all doors lead to one of those.
+    """
     rows = [[None if goal is None else first[goal] for goal in row] for row in machine.doors]
     sequence = list(first_ways(rows))
     doors, good = rearranged(rows, machine.good, sequence)
@@ -54,13 +56,13 @@ def _least_and_futures(machine):
 def least(machine):
     """The least machine of the language."""
     check_machine(machine)
-    return _least_and_futures(machine)[0]
+    return glued(machine, _first_alike(machine))[0]
 
 
 def futures(machine):
     """The tuple that has for each room the room of the least machine to which it goes."""
     check_machine(machine)
-    return _least_and_futures(machine)[1]
+    return glued(machine, _first_alike(machine))[1]
 
 
 def are_alike(one, other):

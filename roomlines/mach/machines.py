@@ -57,7 +57,7 @@ def _ways(doors):
     return [sorted(pairs) for pairs in ways]
 
 
-def _alive(doors, good):
+def alive_rooms(doors, good):
     """The dict of the rooms from which some word leads to a good room."""
     ways = _ways(doors)
     found = {room: True for room in good}
@@ -77,6 +77,36 @@ def _least_missing(doors, found):
     return missing[0] if missing else None
 
 
+def check_ways(doors, good):
+    """Raise Refused for the least lost room, or else for the least stuck one."""
+    lost = _least_missing(doors, first_ways(doors))
+    if lost is not None:
+        raise Refused(("lost", lost))
+    stuck = _least_missing(doors, alive_rooms(doors, good))
+    if stuck is not None:
+        raise Refused(("stuck", stuck))
+
+
+def explored(letters, start, step, most):
+    """The pair of all states from a start on, in the sequence of first words, and of their doors; None beyond most.
+
+    The step tells the state behind a state and a letter, None if there is none.
+    """
+    states = [start]
+    place = {start: 0}
+    rows = []
+    while len(rows) < len(states) <= most:
+        row = []
+        for letter in range(letters):
+            goal = step(states[len(rows)], letter)
+            if goal is not None and goal not in place:
+                place[goal] = len(states)
+                states.append(goal)
+            row.append(place.get(goal))
+        rows.append(tuple(row))
+    return None if len(states) > most else (states, tuple(rows))
+
+
 def rearranged(doors, good, sequence):
     """The doors and the good rooms, if the rooms of a sequence alone are left, numbered by it."""
     place = {room: at for at, room in enumerate(sequence)}
@@ -90,12 +120,7 @@ class Machine:
 
     def __init__(self, letters, doors, good):
         _check_parts(letters, doors, good)
-        lost = _least_missing(doors, first_ways(doors))
-        if lost is not None:
-            raise Refused(("lost", lost))
-        stuck = _least_missing(doors, _alive(doors, good))
-        if stuck is not None:
-            raise Refused(("stuck", stuck))
+        check_ways(doors, good)
         self._letters = letters
         self._doors = doors
         self._good = good
@@ -104,7 +129,7 @@ class Machine:
     def trimmed(cls, letters, doors, good):
         """The machine without lost and stuck rooms; the other ones keep their sequence."""
         _check_parts(letters, doors, good)
-        alive = _alive(doors, good)
+        alive = alive_rooms(doors, good)
         if 0 not in alive:
             raise Refused(("empty",))
         left = [room for room in sorted(first_ways(doors)) if room in alive]
@@ -203,6 +228,11 @@ def room_behind(machine, room, word):
 def all_ways(machine):
     """The list that has for each room the ascending list of the pairs (letter, other room) of the doors to it."""
     return _ways(machine.doors)
+
+
+def is_room_tuple(machine, value):
+    """Whether the value is an ascending tuple of rooms of the machine, not empty."""
+    return are_numbers_up(value, 0, machine.size - 1) and len(value) > 0
 
 
 def rooms_ahead(machine, room, word):

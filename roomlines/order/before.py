@@ -44,9 +44,9 @@ def _by_heights(machine):
     return [(one, other) for one, other in _unlike_pairs(machine.size) if high[one] <= low[other]]
 
 
-def _edge_marks(machine):
-    """The lists of the least and of the greatest marks of all rooms."""
-    marks = [[letter for letter, _ in pairs] for pairs in all_ways(machine)]
+def edge_marks(ways):
+    """The lists of the least and of the greatest marks of all rooms, by the lists of the doors into them."""
+    marks = [[letter for letter, _ in pairs] for pairs in ways]
     # The room 0 has a mark ahead of all letters, as no word other than () comes before it.
     marks[0].append(-1)
     return [min(row) for row in marks], [max(row) for row in marks]
@@ -60,7 +60,7 @@ def _goal_pairs(machine, pair):
 
 def _by_doors(machine):
     """The pairs of rooms that are left when all are struck out that cannot keep doors."""
-    least_marks, greatest_marks = _edge_marks(machine)
+    least_marks, greatest_marks = edge_marks(all_ways(machine))
     struck = {pair: True for pair in _unlike_pairs(machine.size) if greatest_marks[pair[0]] > least_marks[pair[1]]}
     waiting = list(struck)
     while waiting:
@@ -171,7 +171,7 @@ def does_keep_doors(machine, value):
     check_machine(machine)
     if not is_order(machine.size, value):
         return False
-    least_marks, greatest_marks = _edge_marks(machine)
+    least_marks, greatest_marks = edge_marks(all_ways(machine))
     if any([greatest_marks[one] > least_marks[other] for one, other in value]):
         return False
     bits = _behind_bits(machine.size, value)
