@@ -7,9 +7,11 @@ from unittest import TestCase
 
 from roomlines import errors
 from roomlines.base import endless, words
-from roomlines.find import endings
+from roomlines.find import endings, rows
 from roomlines.mach import heights, least, machines
 from roomlines.order import before, lines, readers
+from roomlines.ring import entangled, tuples
+from roomlines.unfold import unfolded
 
 ROOT = Path(__file__).resolve().parent.parent / "roomlines"
 BUILTINS = set("""len range enumerate zip min max sum abs sorted reversed int str bool list tuple dict set isinstance
@@ -20,7 +22,7 @@ NODES = set("""Module Expr Constant ImportFrom alias FunctionDef arguments arg C
     Return Raise If While For Break Continue Pass Yield YieldFrom Call keyword Attribute Subscript Slice Tuple List Dict
     Set ListComp SetComp DictComp comprehension IfExp BoolOp And Or UnaryOp Not USub Invert BinOp Add Sub Mult FloorDiv
     Mod Pow LShift RShift BitOr BitAnd Compare Eq NotEq Lt LtE Gt GtE Is IsNot In NotIn JoinedStr
-    FormattedValue Lambda""".split())
+    FormattedValue Lambda Try ExceptHandler""".split())
 METHOD_NAMES = set("__init__ __eq__ __str__ __len__ __call__ __add__ __contains__".split())
 INTERFACE = {
     errors: """RoomError InvalidWord InvalidHeight InvalidMachine InvalidReader InvalidRooms InvalidLines InvalidOrder
@@ -35,7 +37,12 @@ INTERFACE = {
         one_line_order longest_line steps mixed_sets""",
     readers: """Reader is_strict_order does_keep line_order order_lines are_order_lines sets_of set_bound
         are_stretches""",
-    endings: "rooms_behind stretches door_counts door_goals Index first_missing"}
+    endings: "rooms_behind stretches door_counts door_goals Index first_missing",
+    rows: "rows_of laid of_rows is_rows",
+    tuples: """led_rooms is_ring does_go_round ring_of piece_of greatest_ring least_ring round_tuples""",
+    entangled: """are_entangled entangled_paper is_entangled_paper entangled_tuples entangled_rooms entangled_number
+        is_entangling""",
+    unfolded: "unfolded fold_rooms folded_lines each_unfolded joined_rooms are_joinable"}
 OWN_METHODS = {endless.Endless: "letters ring tail end __add__ __eq__ __len__ __str__ __init__",
                machines.Machine: "trimmed letters doors good size leads ways_in __call__ __eq__ __str__ __init__",
                readers.Reader: "of_machine letters doors good size rooms_of __call__ __eq__ __str__ __init__",

@@ -115,8 +115,9 @@ class MakingTests(Checks):
         self.assertEqual((alone.doors, alone.good), (((None, 0),), (0,)))
         for good in ((), (1,), (1, 2)):
             self.fails_with(Refused, ("empty",), Machine.trimmed, 1, ((0,), (0,), (1,)), good)
-        for machine in DRAWN:
-            self.assertEqual(Machine.trimmed(machine.letters, machine.doors, machine.good), machine)
+        for at, machine in enumerate(DRAWN):
+            for told in (machine, shuffled(machine, at)):
+                self.assertEqual(Machine.trimmed(told.letters, told.doors, told.good), told)
 
     def test_trimmed_has_the_same_words(self):
         doors = ((1, 4, 5), (1, 2, 0), (2, None, 2), (0, 3, 1), (None, 5, 5), (5, 0, 4))

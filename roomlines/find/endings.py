@@ -38,7 +38,6 @@ def _around(places):
 
 def stretches(machine, lines, word):
     """The tuple of the stretches of the rooms behind the word, one for each line."""
-    check_machine(machine)
     check_lines(machine, lines)
     check_word(machine.letters, word)
     found = {room: True for room in _behind(machine, word)}
@@ -82,14 +81,12 @@ def _goal_tables(tables):
 
 def door_counts(machine, lines):
     """The tables [letter][first line][second line] of the tuple of the counts."""
-    check_machine(machine)
     check_lines(machine, lines)
     return _count_tables(_door_tables(machine, lines), lines)
 
 
 def door_goals(machine, lines):
     """The tables [letter][first line][second line] of the tuple of the goals."""
-    check_machine(machine)
     check_lines(machine, lines)
     return _goal_tables(_door_tables(machine, lines))
 
@@ -105,7 +102,6 @@ class Index:
     """An index: stretches of rooms behind words, from counts of doors alone. It never changes."""
 
     def __init__(self, machine, lines):
-        check_machine(machine)
         check_lines(machine, lines)
         tables = _door_tables(machine, lines)
         self._source = machine

@@ -77,7 +77,7 @@ def are_fewest_lines(machine, value):
 
 
 def check_lines(machine, value):
-    """Raise InvalidLines unless the value is a choice of lines of a machine that is known to be right."""
+    """Raise the errors of a machine and of a choice of its lines."""
     if not are_lines(machine, value):
         raise InvalidLines("no choice of lines of the machine")
 

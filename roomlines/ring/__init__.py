@@ -1,0 +1,1 @@
+"""Rooms that go round with a word, and entangled rooms."""

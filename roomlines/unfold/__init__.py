@@ -1,0 +1,1 @@
+"""Machines whose rooms are taken apart by the last letters of words."""

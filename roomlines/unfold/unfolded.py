@@ -1,0 +1,105 @@
+"""Unfolded machines: rooms taken apart by the last letters of the words that lead to them."""
+
+from roomlines.base.checks import check_number
+from roomlines.base.endless import last_letters
+from roomlines.errors import InvalidOperation, TooMany
+from roomlines.mach.least import futures, glued
+from roomlines.mach.machines import check_machine, check_rooms, explored, machine_of, numbered
+from roomlines.order.lines import line_number
+
+MAX_FOLD = 8
+MAX_UNFOLDED = 400
+
+
+def _behind(machine, told, letter, many):
+    """The pair of the room and of the last letters behind such a pair and a letter; None if a door is missing."""
+    room, word = told
+    goal = machine.doors[room][letter]
+    return None if goal is None else (goal, last_letters(word + (letter,), many))
+
+
+def _folds(machine, many):
+    """The list of the pairs (room, last letters), and the doors between them; None for more than 400 pairs."""
+    # A word that is shorter than the last letters is told by them whole, so it leads to a pair of its own.
+    return explored(machine.letters, (0, ()), lambda told, letter: _behind(machine, told, letter, many), MAX_UNFOLDED)
+
+
+def _checked_folds(machine, many):
+    """The pairs and the doors between them, with the errors of unfolded."""
+    check_machine(machine)
+    check_number(many, 0, MAX_FOLD)
+    folds = _folds(machine, many)
+    if folds is None:
+        raise TooMany(MAX_UNFOLDED)
+    return folds
+
+
+def _machine_of_folds(machine, folds):
+    """The unfolded machine of the pairs and the doors between them."""
+    pairs, doors = folds
+    good = [at for at, pair in enumerate(pairs) if pair[0] in machine.good]
+    return machine_of(machine.letters, doors, tuple(good))
+
+
+def unfolded(machine, many):
+    """The machine, unfolded by so many letters."""
+    return _machine_of_folds(machine, _checked_folds(machine, many))
+
+
+def fold_rooms(machine, many):
+    """The tuple of the pairs (room, last letters) to which the rooms of the unfolded machine belong."""
+    return tuple(_checked_folds(machine, many)[0])
+
+
+def folded_lines(machine, many):
+    """The tuple of the numbers of lines of the machine, unfolded by 0, 1, and so on up to so many letters."""
+    # Unfolded by fewer letters the machine has no more rooms; so one check is enough.
+    _checked_folds(machine, many)
+    return tuple([line_number(unfolded(machine, fewer)) for fewer in range(many + 1)])
+
+
+def each_unfolded(machine):
+    """Yield the machines that are unfolded by 0, 1, .. 8 letters, up to the first one with more than 400 rooms."""
+    check_machine(machine)
+    for many in range(MAX_FOLD + 1):
+        folds = _folds(machine, many)
+        if folds is None:
+            return
+        yield _machine_of_folds(machine, folds)
+
+
+def _root(first, room):
+    """The least room with which a room is one so far."""
+    at = room
+    while first[at] != at:
+        at = first[at]
+    return at
+
+
+def _joined(machine, one, other):
+    """The list that has for each room the least room with which it is one, if two rooms are one."""
+    first = list(range(machine.size))
+    pairs = [(one, other)]
+    while pairs:
+        room, further = pairs.pop()
+        least, greatest = sorted([_root(first, room), _root(first, further)])
+        if least < greatest:
+            first[greatest] = least
+            goals = list(zip(machine.doors[least], machine.doors[greatest]))
+            # Rooms with one future have doors with the same letters.
+            pairs.extend([pair for pair in goals if None not in pair])
+    return [_root(first, room) for room in range(machine.size)]
+
+
+def joined_rooms(machine, one, other):
+    """The numbered machine in which two rooms are one, and all rooms to which the same letters lead from them."""
+    if not are_joinable(machine, one, other):
+        raise InvalidOperation("the rooms have unlike futures")
+    return numbered(machine) if one == other else glued(machine, _joined(machine, one, other))[0]
+
+
+def are_joinable(machine, one, other):
+    """Whether two rooms have one future."""
+    check_rooms(machine, one, other)
+    told = futures(machine)
+    return told[one] == told[other]
