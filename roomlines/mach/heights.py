@@ -17,26 +17,28 @@ def check_side(side):
 
 
 def _keys(ways, ranks, side):
-    """For each room the pair (letter, rank) of the door that decides its height; (-1, 0) for the height ()."""
-    keys = []
-    for room, pairs in enumerate(ways):
-        found = [(letter, ranks[source]) for letter, source in pairs]
-        if side == "low":
-            keys.append((-1, 0) if room == 0 else min(found))
-        else:
-            keys.append(max(found) if found else (-1, 0))
-    return keys
+    """For each height the pair (letter, rank) of the way back that decides it; (-1, 0) for the height ()."""
+    found = [[(letter, ranks[source]) for letter, source in pairs] for pairs in ways]
+    if side == "low":
+        return [min(pairs, default=(-1, 0)) for pairs in found]
+    return [max(pairs, default=(-1, 0)) for pairs in found]
 
 
-def height_ranks(machine):
-    """The lists of the ranks of all low heights and of all high heights: the lesser one is ahead."""
+def height_ways(machine):
+    """The lists of the ways back, for each low height and for each high height pairs (letter, room)."""
     ways = all_ways(machine)
-    low = [0] * machine.size
-    high = [0] * machine.size
+    # The word () is ahead of all others, so the low height of the room 0 has no letters.
+    return [[]] + ways[1:], ways
+
+
+def ranks_back(low_ways, high_ways):
+    """The lists of the ranks of all low and of all high heights with such ways back: the lesser one is ahead."""
+    low = [0] * len(low_ways)
+    high = [0] * len(high_ways)
     while True:
         # After so many steps the ranks compare as many last letters; at last they compare all of them.
-        low_keys = _keys(ways, low, "low")
-        high_keys = _keys(ways, high, "high")
+        low_keys = _keys(low_ways, low, "low")
+        high_keys = _keys(high_ways, high, "high")
         rank = {key: at for at, key in enumerate(sorted(set(low_keys + high_keys)))}
         new_low = [rank[key] for key in low_keys]
         new_high = [rank[key] for key in high_keys]
@@ -46,21 +48,24 @@ def height_ranks(machine):
         high = new_high
 
 
-def fitting_doors(ways, ranks, keys):
-    """The list that has for each room the least pair (letter, other room) of its key; None if there is none."""
-    doors = []
-    for pairs, key in zip(ways, keys):
-        fitting = [(letter, source) for letter, source in pairs if (letter, ranks[source]) == key]
-        doors.append(min(fitting) if fitting else None)
-    return doors
+def height_ranks(machine):
+    """The lists of the ranks of all low heights and of all high heights: the lesser one is ahead."""
+    low_ways, high_ways = height_ways(machine)
+    return ranks_back(low_ways, high_ways)
 
 
-def _doors_of(machine):
-    """The pair of the lists of the last doors of all rooms, in the sequence of the sides."""
-    ways = all_ways(machine)
-    low, high = height_ranks(machine)
-    return (fitting_doors(ways, low, _keys(ways, low, "low")),
-            fitting_doors(ways, high, _keys(ways, high, "high")))
+def deciding_ways(ways, side):
+    """The list that has for each height of a side the list of those of its ways back that decide it."""
+    low, high = ranks_back(ways, []) if side == "low" else ranks_back([], ways)
+    ranks = low + high
+    return [[(letter, source) for letter, source in pairs if (letter, ranks[source]) == key]
+            for pairs, key in zip(ways, _keys(ways, ranks, side))]
+
+
+def _doors_of(machine, side):
+    """The list of the last doors of a side of all rooms."""
+    ways = height_ways(machine)[SIDES.index(side)]
+    return [min(pairs, default=None) for pairs in deciding_ways(ways, side)]
 
 
 def height_by(letters, doors, room):
@@ -78,9 +83,15 @@ def height_by(letters, doors, room):
     return endless_of(letters, tuple(spelled[start:][::-1]), tuple(spelled[:start][::-1]))
 
 
+def heights_of(machine, rooms, side):
+    """The list of the heights of a side of some rooms."""
+    doors = _doors_of(machine, side)
+    return [height_by(machine.letters, doors, room) for room in rooms]
+
+
 def height_of(machine, room, side):
     """The height of a side of a room."""
-    return height_by(machine.letters, _doors_of(machine)[SIDES.index(side)], room)
+    return heights_of(machine, [room], side)[0]
 
 
 def low_height(machine, room):
@@ -100,9 +111,8 @@ def high_height(machine, room):
 def all_heights(machine):
     """The tuple that has for each room the pair of its low height and its high height."""
     check_machine(machine)
-    low, high = _doors_of(machine)
-    letters = machine.letters
-    return tuple([(height_by(letters, low, room), height_by(letters, high, room)) for room in range(machine.size)])
+    rooms = list(range(machine.size))
+    return tuple(list(zip(heights_of(machine, rooms, "low"), heights_of(machine, rooms, "high"))))
 
 
 def is_met(machine, room, *, side="low"):
@@ -117,7 +127,7 @@ def last_doors(machine, *, side="low"):
     """The tuple that has for each room its last door (letter, other room), None if there is none."""
     check_machine(machine)
     check_side(side)
-    return tuple(_doors_of(machine)[SIDES.index(side)])
+    return tuple(_doors_of(machine, side))
 
 
 def near_word(machine, room, height, many):
@@ -144,5 +154,6 @@ def does_span(machine, room, word):
     check_machine(machine)
     check_room(machine, room)
     check_word(machine.letters, word)
-    low, high = all_heights(machine)[room]
+    low = height_of(machine, room, "low")
+    high = height_of(machine, room, "high")
     return order_heights(low, word) <= 0 and order_heights(word, high) <= 0

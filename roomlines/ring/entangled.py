@@ -3,10 +3,10 @@
 from roomlines.base.checks import is_number
 from roomlines.base.endless import count_agreeing, endless_of, order_heights
 from roomlines.base.words import is_spelled
-from roomlines.mach.heights import all_heights, near_word
-from roomlines.mach.machines import check_machine, room_behind
-from roomlines.ring.tuples import (check_few, check_turning, does_go_round, greatest_ring, is_led_back, least_ring,
-                                   ring_near, round_tuples)
+from roomlines.mach.heights import height_ways, heights_of, near_word, ranks_back
+from roomlines.mach.machines import all_ways, check_machine, room_behind
+from roomlines.ring.groups import edge_near, groups_round, ring_near
+from roomlines.ring.tuples import check_few, check_turning, is_led_back, room_tuples
 
 SIDES = ("below", "above")
 MOST_LETTERS = 2000
@@ -18,47 +18,54 @@ def _check_all(machine, rooms):
     check_few(machine)
 
 
-def _not_below(machine, rooms, endless):
-    """The list of the rooms whose low height is not below an endless word: no word to them is below it."""
-    heights = all_heights(machine)
-    return [room for room in rooms if order_heights(heights[room][0], endless) >= 0]
+def _outer_rooms(machine, rounds, side):
+    """The dict from each of the groups that go round to the list of those of its rooms that no word shows on a side.
+
+    Below they have a low height that is not below the greatest ring word of the group, above a high height that is
+    not above its least one.
+    """
+    groups, piece = rounds
+    low_ways, high_ways = height_ways(machine)
+    # Heights and ring words are ranked together, so that no letters of them need to be compared.
+    if side == "below":
+        low, high = ranks_back(low_ways, all_ways(piece))
+        return {group: [room for room in group if low[room] >= high[at]] for at, group in enumerate(groups)}
+    low, high = ranks_back(all_ways(piece), high_ways)
+    return {group: [room for room in group if high[room] <= low[at]] for at, group in enumerate(groups)}
 
 
-def _not_above(machine, rooms, endless):
-    """The list of the rooms whose high height is not above an endless word: no word to them is above it."""
-    heights = all_heights(machine)
-    return [room for room in rooms if order_heights(heights[room][1], endless) <= 0]
-
-
-def _side_of(machine, rooms):
+def _side_of(machine, rounds, rooms):
     """The first side on which rooms that go round are entangled; None if there is none."""
-    if not _not_below(machine, rooms, greatest_ring(machine, rooms)):
-        return "below"
-    return None if _not_above(machine, rooms, least_ring(machine, rooms)) else "above"
+    for side in SIDES:
+        if not _outer_rooms(machine, rounds, side)[rooms]:
+            return side
+    return None
 
 
 def are_entangled(machine, rooms):
     """Whether the rooms are entangled."""
     _check_all(machine, rooms)
-    return len(rooms) == 1 or does_go_round(machine, rooms) and _side_of(machine, rooms) is not None
+    if len(rooms) == 1:
+        return True
+    rounds = groups_round(machine, [rooms])
+    return rooms in rounds[0] and _side_of(machine, rounds, rooms) is not None
 
 
 def _ring_paper(machine, rooms, side):
     """The paper of rooms that are entangled on a side."""
-    below = side == "below"
-    edge = greatest_ring(machine, rooms) if below else least_ring(machine, rooms)
-    heights = [pair[0] if below else pair[1] for pair in all_heights(machine)]
+    heights = heights_of(machine, rooms, "low" if side == "below" else "high")
+    end = "high" if side == "below" else "low"
+    edge = edge_near(machine, rooms, end)
     # With one letter more than a height agrees in with the edge, a word is on the same side of it as the height;
     # and with as many letters of the edge at its end, so is the endless word of a ring in place of the edge.
-    many = max([count_agreeing(heights[room], edge) for room in rooms]) + 1
-    words = tuple([near_word(machine, room, heights[room], many) for room in rooms])
-    return "ring", ring_near(machine, rooms, "greatest" if below else "least", many), side, words
+    many = max([count_agreeing(height, edge) for height in heights]) + 1
+    words = tuple([near_word(machine, room, height, many) for room, height in zip(rooms, heights)])
+    return "ring", ring_near(machine, rooms, end, many), side, words
 
 
-def _apart(machine, rooms):
+def _apart(machine, rounds, rooms):
     """The paper of rooms that go round and are not entangled."""
-    low = _not_below(machine, rooms, greatest_ring(machine, rooms))
-    return "apart", low[0], _not_above(machine, rooms, least_ring(machine, rooms))[0]
+    return ("apart",) + tuple([_outer_rooms(machine, rounds, side)[rooms][0] for side in SIDES])
 
 
 def entangled_paper(machine, rooms):
@@ -66,10 +73,11 @@ def entangled_paper(machine, rooms):
     _check_all(machine, rooms)
     if len(rooms) == 1:
         return ("alone",)
-    if not does_go_round(machine, rooms):
+    rounds = groups_round(machine, [rooms])
+    if rooms not in rounds[0]:
         return ("still",)
-    side = _side_of(machine, rooms)
-    return _apart(machine, rooms) if side is None else _ring_paper(machine, rooms, side)
+    side = _side_of(machine, rounds, rooms)
+    return _apart(machine, rounds, rooms) if side is None else _ring_paper(machine, rooms, side)
 
 
 def _are_words_to(machine, rooms, value):
@@ -100,23 +108,26 @@ def is_entangled_paper(machine, rooms, value):
         return False
     if len(rooms) == 1:
         return value == ("alone",)
-    if not does_go_round(machine, rooms):
-        return value == ("still",)
     if len(value) == 4:
         return _is_ring_paper(machine, rooms, value)
+    rounds = groups_round(machine, [rooms])
+    if rooms not in rounds[0]:
+        return value == ("still",)
     if len(value) != 3 or not all([is_number(room, 0, machine.size - 1) for room in value[1:]]):
         return False
-    return _side_of(machine, rooms) is None and value == _apart(machine, rooms)
+    return _side_of(machine, rounds, rooms) is None and value == _apart(machine, rounds, rooms)
 
 
 def entangled_tuples(machine):
     """Yield all ascending tuples of at least two entangled rooms, shorter ones first, those of one length ascending."""
     check_machine(machine)
     check_few(machine)
-    for many in range(2, machine.size + 1):
-        for rooms in round_tuples(machine, many):
-            if _side_of(machine, rooms) is not None:
-                yield rooms
+    starts = [rooms for many in range(2, machine.size + 1) for rooms in room_tuples(machine.size, many)]
+    rounds = groups_round(machine, starts)
+    below, above = [_outer_rooms(machine, rounds, side) for side in SIDES]
+    for rooms in starts:
+        if rooms in below and (not below[rooms] or not above[rooms]):
+            yield rooms
 
 
 def entangled_rooms(machine):
@@ -137,4 +148,6 @@ def is_entangling(machine, rooms, value):
     if not is_led_back(machine, rooms, value):
         return False
     endless = endless_of(machine.letters, value, ())
-    return not _not_below(machine, rooms, endless) or not _not_above(machine, rooms, endless)
+    if all([order_heights(height, endless) < 0 for height in heights_of(machine, rooms, "low")]):
+        return True
+    return all([order_heights(height, endless) > 0 for height in heights_of(machine, rooms, "high")])
