@@ -7,22 +7,23 @@ from unittest import TestCase
 
 from roomlines import errors
 from roomlines.base import endless, words
+from roomlines.deeds import languages
 from roomlines.find import endings, rows
 from roomlines.mach import heights, least, machines
 from roomlines.order import before, lines, readers
 from roomlines.ring import entangled, tuples
-from roomlines.unfold import unfolded
+from roomlines.unfold import fewest, single, unfolded
 
 ROOT = Path(__file__).resolve().parent.parent / "roomlines"
 BUILTINS = set("""len range enumerate zip min max sum abs sorted reversed int str bool list tuple dict set isinstance
     repr any all divmod property classmethod ValueError TypeError KeyError IndexError LookupError ArithmeticError
     OverflowError""".split())
-METHODS = set("append extend pop get items join setdefault index count".split())
+METHODS = set("append extend pop get items values join setdefault index count".split())
 NODES = set("""Module Expr Constant ImportFrom alias FunctionDef arguments arg ClassDef Assign AugAssign Name Load Store
     Return Raise If While For Break Continue Pass Yield YieldFrom Call keyword Attribute Subscript Slice Tuple List Dict
     Set ListComp SetComp DictComp comprehension IfExp BoolOp And Or UnaryOp Not USub Invert BinOp Add Sub Mult FloorDiv
     Mod Pow LShift RShift BitOr BitAnd Compare Eq NotEq Lt LtE Gt GtE Is IsNot In NotIn JoinedStr
-    FormattedValue Lambda Try ExceptHandler""".split())
+    FormattedValue Lambda Try ExceptHandler Delete Del""".split())
 METHOD_NAMES = set("__init__ __eq__ __str__ __len__ __call__ __add__ __contains__".split())
 INTERFACE = {
     errors: """RoomError InvalidWord InvalidHeight InvalidMachine InvalidReader InvalidRooms InvalidLines InvalidOrder
@@ -42,7 +43,10 @@ INTERFACE = {
     tuples: """led_rooms is_ring does_go_round ring_of piece_of greatest_ring least_ring round_tuples""",
     entangled: """are_entangled entangled_paper is_entangled_paper entangled_tuples entangled_rooms entangled_number
         is_entangling""",
-    unfolded: "unfolded fold_rooms folded_lines each_unfolded joined_rooms are_joinable"}
+    unfolded: "unfolded fold_rooms folded_lines each_unfolded joined_rooms are_joinable",
+    fewest: """fewest_lines fewest_fold fewest_machine is_fewest_machine fewest_paper is_fewest_paper thinned""",
+    single: """has_one_line single_machine single_number is_single_machine lot_paper is_lot_paper lots_to""",
+    languages: "meet union_of less ended_by after put_ahead with_words without_words of_words"}
 OWN_METHODS = {endless.Endless: "letters ring tail end __add__ __eq__ __len__ __str__ __init__",
                machines.Machine: "trimmed letters doors good size leads ways_in __call__ __eq__ __str__ __init__",
                readers.Reader: "of_machine letters doors good size rooms_of __call__ __eq__ __str__ __init__",

@@ -1,6 +1,6 @@
 """Least machines, and the words that part unlike machines and unlike rooms."""
 
-from roomlines.errors import InvalidMachine, InvalidOperation
+from roomlines.errors import InvalidMachine, InvalidOperation, Refused, TooMany
 from roomlines.mach.machines import check_machine, check_machines, check_rooms, first_ways, machine_of, rearranged
 
 
@@ -15,54 +15,104 @@ def _completed(machine):
     return rows, flags
 
 
-def _divided(rows, sorts):
-    """The sorts of all rooms, divided by the sorts of the rooms to which their doors lead."""
-    numbers = {}
-    divided = []
+def _sources(rows):
+    """The list that has for each room the list of the rooms from which doors lead to it."""
+    sources = [[] for _ in rows]
     for room, row in enumerate(rows):
-        key = tuple([sorts[room]] + [sorts[goal] for goal in row])
-        numbers.setdefault(key, len(numbers))
-        divided.append(numbers[key])
-    return divided
+        for goal in row:
+            sources[goal].append(room)
+    return sources
 
 
-def _first_alike(machine):
-    """The list that has for each room the least room with its future."""
+def _parts(rows, sorts, rooms):
+    """The dict from each sort of some rooms to the list of their parts: the doors of a part lead to equal sorts."""
+    parts = {}
+    for room in rooms:
+        key = tuple([sorts[goal] for goal in rows[room]])
+        parts.setdefault(sorts[room], {}).setdefault(key, []).append(room)
+    return {sort: list(lists.values()) for sort, lists in parts.items()}
+
+
+def _new_parts(members, parts):
+    """The list of all parts of a sort but the largest one: those that are told, and what is left of it."""
+    told = {room: True for part in parts for room in part}
+    largest = max(parts, key=len)
+    if len(members) - len(told) >= len(largest):
+        return parts
+    left = [room for room in members if room not in told]
+    return [part for part in parts + [left] if part and part != largest]
+
+
+def _sorts(rows, flags, most):
+    """The list that has for each room the number of its future; None if there are more than so many futures."""
+    sources = _sources(rows)
+    members = [{room: True for room in range(len(rows))}]
+    sorts = [0] * len(rows)
+    flagged = [room for room, flag in enumerate(flags) if flag]
+    waiting = {0: [flagged]} if flagged else {}
+    while waiting and len(members) <= most:
+        changed = []
+        for sort, parts in waiting.items():
+            for part in _new_parts(members[sort], parts):
+                for room in part:
+                    del members[sort][room]
+                    sorts[room] = len(members)
+                members.append({room: True for room in part})
+                changed.extend(part)
+        # The largest part keeps its number, so only rooms ahead of the other ones can come apart.
+        waiting = _parts(rows, sorts, sorted({source for room in changed for source in sources[room]}))
+    return None if len(members) > most else sorts
+
+
+def _first_alike(machine, most):
+    """The list that has for each room the least room with its future, None for no future; None for too many futures."""
     rows, flags = _completed(machine)
-    sorts = [1 if flag else 0 for flag in flags]
-    divided = _divided(rows, sorts)
-    # Sorts are only ever divided: as soon as there are no more of them, each one is a future.
-    while max(divided) > max(sorts):
-        sorts = divided
-        divided = _divided(rows, sorts)
+    sorts = _sorts(rows, flags, most + 1)
+    if sorts is None:
+        return None
     first = {}
     for room in range(machine.size):
-        first.setdefault(divided[room], room)
-    return [first[divided[room]] for room in range(machine.size)]
+        first.setdefault(sorts[room], room)
+    first[sorts[machine.size]] = None
+    return [first[sorts[room]] for room in range(machine.size)]
 
 
 def glued(machine, first):
     """The numbered machine in which each room is one with a room of its future, and the tuple of where the rooms go.
 
-    The list tells for each room the least one with which it is one; so do all doors lead to one of those.
+    The list tells for each room the least one with which it is one, so that all doors lead to one of those; and None
+    for a room without a future.
     """
     rows = [[None if goal is None else first[goal] for goal in row] for row in machine.doors]
     sequence = list(first_ways(rows))
     doors, good = rearranged(rows, machine.good, sequence)
     place = {room: at for at, room in enumerate(sequence)}
-    return machine_of(machine.letters, doors, good), tuple([place[room] for room in first])
+    return machine_of(machine.letters, doors, good), tuple([place.get(room) for room in first])
+
+
+def least_told(machine, most):
+    """The least machine of the language of a machine that can have stuck rooms.
+
+    It raises Refused if there is no word in the language, and TooMany for more than so many rooms.
+    """
+    first = _first_alike(machine, most)
+    if first is None:
+        raise TooMany(most)
+    if first[0] is None:
+        raise Refused(("empty",))
+    return glued(machine, first)[0]
 
 
 def least(machine):
     """The least machine of the language."""
     check_machine(machine)
-    return glued(machine, _first_alike(machine))[0]
+    return glued(machine, _first_alike(machine, machine.size))[0]
 
 
 def futures(machine):
     """The tuple that has for each room the room of the least machine to which it goes."""
     check_machine(machine)
-    return glued(machine, _first_alike(machine))[1]
+    return glued(machine, _first_alike(machine, machine.size))[1]
 
 
 def are_alike(one, other):

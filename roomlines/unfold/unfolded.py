@@ -4,7 +4,7 @@ from roomlines.base.checks import check_number
 from roomlines.base.endless import last_letters
 from roomlines.errors import InvalidOperation, TooMany
 from roomlines.mach.least import futures, glued
-from roomlines.mach.machines import check_machine, check_rooms, explored, machine_of, numbered
+from roomlines.mach.machines import check_machine, check_rooms, explored, machine_of
 from roomlines.order.lines import line_number
 
 MAX_FOLD = 8
@@ -91,11 +91,16 @@ def _joined(machine, one, other):
     return [_root(first, room) for room in range(machine.size)]
 
 
+def with_joined(machine, one, other):
+    """The numbered machine in which two rooms of one future are one, and all rooms to which equal letters lead."""
+    return glued(machine, _joined(machine, one, other))[0]
+
+
 def joined_rooms(machine, one, other):
     """The numbered machine in which two rooms are one, and all rooms to which the same letters lead from them."""
     if not are_joinable(machine, one, other):
         raise InvalidOperation("the rooms have unlike futures")
-    return numbered(machine) if one == other else glued(machine, _joined(machine, one, other))[0]
+    return with_joined(machine, one, other)
 
 
 def are_joinable(machine, one, other):

@@ -1,0 +1,1 @@
+"""Deeds on languages, orders of letters, and counts of words."""
