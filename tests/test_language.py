@@ -7,24 +7,26 @@ from unittest import TestCase
 
 from roomlines import errors
 from roomlines.base import endless, words
-from roomlines.deeds import languages
+from roomlines.deeds import counts, languages, turns
+from roomlines.desk import shelf
 from roomlines.find import endings, rows
 from roomlines.mach import heights, least, machines
 from roomlines.order import before, lines, readers
 from roomlines.ring import entangled, tuples
+from roomlines.text import texts
 from roomlines.unfold import fewest, single, unfolded
 
 ROOT = Path(__file__).resolve().parent.parent / "roomlines"
 BUILTINS = set("""len range enumerate zip min max sum abs sorted reversed int str bool list tuple dict set isinstance
-    repr any all divmod property classmethod ValueError TypeError KeyError IndexError LookupError ArithmeticError
+    repr any all divmod iter property classmethod ValueError TypeError KeyError IndexError LookupError ArithmeticError
     OverflowError""".split())
-METHODS = set("append extend pop get items values join setdefault index count".split())
+METHODS = set("append extend pop get items values join setdefault index count split partition startswith".split())
 NODES = set("""Module Expr Constant ImportFrom alias FunctionDef arguments arg ClassDef Assign AugAssign Name Load Store
     Return Raise If While For Break Continue Pass Yield YieldFrom Call keyword Attribute Subscript Slice Tuple List Dict
     Set ListComp SetComp DictComp comprehension IfExp BoolOp And Or UnaryOp Not USub Invert BinOp Add Sub Mult FloorDiv
     Mod Pow LShift RShift BitOr BitAnd Compare Eq NotEq Lt LtE Gt GtE Is IsNot In NotIn JoinedStr
     FormattedValue Lambda Try ExceptHandler Delete Del""".split())
-METHOD_NAMES = set("__init__ __eq__ __str__ __len__ __call__ __add__ __contains__".split())
+METHOD_NAMES = set("__init__ __eq__ __str__ __len__ __call__ __add__ __contains__ __iter__ __bool__".split())
 INTERFACE = {
     errors: """RoomError InvalidWord InvalidHeight InvalidMachine InvalidReader InvalidRooms InvalidLines InvalidOrder
         InvalidOperation InvalidName ParseError InvalidNumber UnknownName TooMany Refused NothingToUndo""",
@@ -46,11 +48,18 @@ INTERFACE = {
     unfolded: "unfolded fold_rooms folded_lines each_unfolded joined_rooms are_joinable",
     fewest: """fewest_lines fewest_fold fewest_machine is_fewest_machine fewest_paper is_fewest_paper thinned""",
     single: """has_one_line single_machine single_number is_single_machine lot_paper is_lot_paper lots_to""",
-    languages: "meet union_of less ended_by after put_ahead with_words without_words of_words"}
+    languages: "meet union_of less ended_by after put_ahead with_words without_words of_words",
+    turns: "rounds_of turned_rooms has_turns each_turned with_order undone_order order_lines best_order",
+    counts: """counted room_counts counted_ending nth_word place_of next_word word_ahead between first_lengths""",
+    shelf: "Shelf",
+    texts: """write_word read_word write_endless read_endless write_machine read_machine write_reader read_reader rows_in
+        is_written"""}
 OWN_METHODS = {endless.Endless: "letters ring tail end __add__ __eq__ __len__ __str__ __init__",
                machines.Machine: "trimmed letters doors good size leads ways_in __call__ __eq__ __str__ __init__",
                readers.Reader: "of_machine letters doors good size rooms_of __call__ __eq__ __str__ __init__",
-               endings.Index: "source lines further number __call__ __contains__ __len__ __eq__ __init__"}
+               endings.Index: "source lines further number __call__ __contains__ __len__ __eq__ __init__",
+               shelf.Shelf: """put take put_all clear undo redo machine texts_ending finds spots texts_between nth place
+               during twin letters texts deeds __contains__ __len__ __iter__ __eq__ __bool__ __str__ __init__"""}
 
 
 def files():

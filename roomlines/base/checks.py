@@ -14,6 +14,11 @@ def check_number(value, least, most):
         raise InvalidNumber(value)
 
 
+def check_count(value):
+    """Raise InvalidNumber unless the value is an integer from 0 on, of at most sixty digits."""
+    check_number(value, 0, 10 ** 60 - 1)
+
+
 def are_ascending(values):
     """Whether each value of a tuple is less than the next one."""
     return all([values[at - 1] < values[at] for at in range(1, len(values))])

@@ -1,6 +1,6 @@
 """Words, compared from the end."""
 
-from roomlines.base.checks import check_number, is_number
+from roomlines.base.checks import check_count, check_number, is_number
 from roomlines.errors import InvalidOperation, InvalidWord
 
 MAX_LETTERS = 4
@@ -75,6 +75,12 @@ def is_end(letters, one, other):
     return count_common(one, other) == len(one)
 
 
+def in_order(words):
+    """The tuple of words of any lengths in order, each once."""
+    backwards = sorted({word[::-1] for word in words})
+    return tuple([word[::-1] for word in backwards])
+
+
 def sorted_words(letters, words):
     """The words of a tuple in order, each once."""
     check_letters(letters)
@@ -82,8 +88,7 @@ def sorted_words(letters, words):
         raise InvalidWord("no tuple of at most 200 words")
     for word in words:
         check_word(letters, word)
-    backwards = sorted({word[::-1] for word in words})
-    return tuple([word[::-1] for word in backwards])
+    return in_order(words)
 
 
 def _raised(letters, word):
@@ -141,7 +146,7 @@ def word_at(letters, length, number):
     """The word at an index among all words of at most the length, in order."""
     check_letters(letters)
     check_number(length, 0, MOST_PLACED)
-    check_number(number, 0, 10 ** 60 - 1)
+    check_count(number)
     sizes = _sizes(letters, length)
     if number >= sizes[length]:
         raise InvalidOperation("there are not so many words")

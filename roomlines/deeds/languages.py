@@ -105,7 +105,7 @@ def _check_words(letters, words):
         check_word(letters, word)
 
 
-def _tree_of(letters, words):
+def tree_of(letters, words):
     """The machine that has a room for each beginning of some words, which are its language; it can have no word."""
     rows = [[None] * letters]
     ends = []
@@ -124,18 +124,18 @@ def with_words(machine, words):
     """The language with some words more."""
     check_machine(machine)
     _check_words(machine.letters, words)
-    return _combined(machine, _tree_of(machine.letters, words), "union")
+    return _combined(machine, tree_of(machine.letters, words), "union")
 
 
 def without_words(machine, words):
     """The language without some words."""
     check_machine(machine)
     _check_words(machine.letters, words)
-    return _combined(machine, _tree_of(machine.letters, words), "less")
+    return _combined(machine, tree_of(machine.letters, words), "less")
 
 
 def of_words(letters, words):
     """The language of just some words."""
     check_letters(letters)
     _check_words(letters, words)
-    return least_told(_tree_of(letters, words), MOST_ROOMS)
+    return least_told(tree_of(letters, words), MOST_ROOMS)

@@ -53,7 +53,8 @@ def _sorts(rows, flags, most):
     while waiting and len(members) <= most:
         changed = []
         for sort, parts in waiting.items():
-            for part in _new_parts(members[sort], parts):
+            apart = _new_parts(members[sort], parts)
+            for part in apart:
                 for room in part:
                     del members[sort][room]
                     sorts[room] = len(members)

@@ -1,0 +1,1 @@
+"""A desk with a shelf of texts."""

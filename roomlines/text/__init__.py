@@ -1,0 +1,1 @@
+"""Words, machines and readers as texts."""
