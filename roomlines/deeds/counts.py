@@ -150,7 +150,7 @@ def between(machine, one, other):
         if many == len(one):
             if first < back < last:
                 yield back[::-1]
-        elif first[:many] <= back <= last[:many]:
+        elif first[:many] <= back <= last:
             counts = tables[len(one) - many - 1]
             # The stack gives back first what it got last, so the greatest letter goes there first.
             for letter in range(machine.letters - 1, -1, -1):

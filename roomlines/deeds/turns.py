@@ -14,10 +14,10 @@ MOST_TURNED = 6
 
 def _round_from(goals, room):
     """The tuple of the rooms from a room on, each led to the next one, until one comes a second time or none comes."""
-    told = []
+    told = {}
     at = room
     while at is not None and at not in told:
-        told.append(at)
+        told[at] = True
         at = goals[at]
     return tuple(told)
 

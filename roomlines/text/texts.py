@@ -79,7 +79,7 @@ def read_endless(letters, text):
     return Endless(letters, _letters_of(text[1:middle]), tail=_letters_of(text[middle + 1:]))
 
 
-def _written(head, letters, goals, good):
+def _text_of(head, letters, goals, good):
     """The text of a machine or a reader whose goals are told by parts, with the error if it is too long."""
     rows = [" ".join(list(head) + [str(letters)])]
     for room, row in enumerate(goals):
@@ -94,14 +94,14 @@ def write_machine(machine):
     """The text of a machine."""
     check_machine(machine)
     goals = [["-" if goal is None else str(goal) for goal in row] for row in machine.doors]
-    return _written(_MACHINE_HEAD, machine.letters, goals, machine.good)
+    return _text_of(_MACHINE_HEAD, machine.letters, goals, machine.good)
 
 
 def write_reader(reader):
     """The text of a reader."""
     check_reader(reader)
     goals = [[",".join([str(room) for room in rooms]) if rooms else "-" for rooms in row] for row in reader.doors]
-    return _written(_READER_HEAD, reader.letters, goals, reader.good)
+    return _text_of(_READER_HEAD, reader.letters, goals, reader.good)
 
 
 def _rows_of(text):
@@ -213,7 +213,7 @@ def read_reader(text):
     return Reader(letters, tuple([tuple(row) for row in doors]), good)
 
 
-def _written_again(text):
+def _text_read_again(text):
     """The written text of the machine or the reader that a text tells; None if it tells none."""
     try:
         return write_machine(read_machine(text))
@@ -227,4 +227,4 @@ def _written_again(text):
 
 def is_written(value):
     """Whether the value is the written text of a machine of at most 24 rooms, or of a reader."""
-    return isinstance(value, str) and _written_again(value) == value
+    return isinstance(value, str) and _text_read_again(value) == value
