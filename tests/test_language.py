@@ -182,6 +182,22 @@ class LanguageTests(TestCase):
                 if called or isinstance(node, (ast.Set, ast.SetComp)):
                     self.assertIn(node, fine, (path, node.lineno))
 
+    def test_nothing_gets_what_it_changes(self):
+        # A package with a class that is iterated over hands no list to its own `+=`, `|=`, `extend` or `update`.
+        for path, tree in trees():
+            for node in ast.walk(tree):
+                changed, walked = None, ()
+                if isinstance(node, ast.AugAssign):
+                    changed, walked = node.target, (node.value,)
+                elif isinstance(node, ast.Call) and isinstance(node.func, ast.Attribute):
+                    if node.func.attr in ("extend", "update"):
+                        changed, walked = node.func.value, node.args
+                if changed is not None:
+                    while isinstance(changed, (ast.Attribute, ast.Subscript)):
+                        changed = changed.value
+                    told = {part.id for value in walked for part in ast.walk(value) if isinstance(part, ast.Name)}
+                    self.assertNotIn(changed.id, told, (path, node.lineno))
+
     def test_interface(self):
         for module, names in INTERFACE.items():
             for name in names.split():

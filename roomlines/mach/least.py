@@ -179,7 +179,7 @@ def _counted_words(machine):
         done += 1
         for goal in machine.doors[room]:
             if goal is not None:
-                counts[goal] += counts[room]
+                counts[goal] = counts[goal] + counts[room]
                 waiting[goal] -= 1
                 if waiting[goal] == 0:
                     ready.append(goal)
