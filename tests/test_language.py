@@ -20,12 +20,12 @@ ROOT = Path(__file__).resolve().parent.parent / "roomlines"
 BUILTINS = set("""len range enumerate zip min max sum abs sorted reversed int str bool list tuple dict set isinstance
     repr any all divmod iter property classmethod ValueError TypeError KeyError IndexError LookupError ArithmeticError
     OverflowError""".split())
-METHODS = set("append extend pop get items values join setdefault index count split partition startswith".split())
+METHODS = set("append extend pop get items values join setdefault index count split partition startswith bit_length".split())
 NODES = set("""Module Expr Constant ImportFrom alias FunctionDef arguments arg ClassDef Assign AugAssign Name Load Store
     Return Raise If While For Break Continue Pass Yield YieldFrom Call keyword Attribute Subscript Slice Tuple List Dict
     Set ListComp SetComp DictComp comprehension IfExp BoolOp And Or UnaryOp Not USub Invert BinOp Add Sub Mult FloorDiv
     Mod Pow LShift RShift BitOr BitAnd Compare Eq NotEq Lt LtE Gt GtE Is IsNot In NotIn JoinedStr
-    FormattedValue Lambda Try ExceptHandler Delete Del""".split())
+    FormattedValue Lambda Try ExceptHandler Delete Del Starred""".split())
 METHOD_NAMES = set("__init__ __eq__ __str__ __len__ __call__ __add__ __contains__ __iter__ __bool__".split())
 INTERFACE = {
     errors: """RoomError InvalidWord InvalidHeight InvalidMachine InvalidReader InvalidRooms InvalidLines InvalidOrder

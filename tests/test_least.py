@@ -2,10 +2,10 @@
 
 from itertools import product
 
-from roomlines.errors import InvalidMachine, InvalidNumber, InvalidOperation
+from roomlines.errors import InvalidMachine, InvalidNumber, InvalidOperation, TooMany
 from roomlines.mach import least as module
-from roomlines.mach.least import (are_alike, each_alike, futures, has_ends, language_size, least, parting_future,
-                                  parting_word)
+from roomlines.mach.least import (are_alike, check_futures, each_alike, futures, has_ends, language_size, least,
+                                  least_told, parting_future, parting_word, rooms_apart, rooms_onto)
 from roomlines.mach.machines import Machine, machine_of, numbered
 from tests.checks import Checks, first_of
 from tests.support import (ALL, EMPTY_WORD, EVEN, FEW, FORK, KNOWN, LONG, NO_NUMBERS, NO_TUPLES, TWINS, WEAVE,
@@ -85,6 +85,37 @@ class LeastTests(Checks):
             self.assertEqual((least(whole).size, futures(whole)), (1, (0,) * 24))
             third = ring(24, letters, good=tuple(range(0, 24, 3)))
             self.assertEqual((least(third), futures(third)), (ring(3, letters), (0, 1, 2) * 8))
+
+    def test_at_most_so_many_futures(self):
+        for machine in DRAWN + (ring(24, good=(0, 6, 12, 18)), ring(24, 4, good=tuple(range(24))), chain(12, 2)):
+            told = least(machine)
+            for most in (1, 2, 5, 8, 9, 400):
+                calls = (least_told, rooms_apart, check_futures)
+                if told.size > most:
+                    for call in calls:
+                        self.fails_with(TooMany, most, call, machine, most)
+                else:
+                    self.assertEqual(least_told(machine, most), told)
+                    apart = rooms_apart(machine, most)
+                    self.assertEqual((apart.size, least(apart)), (told.size, told))
+                    self.assertIsNone(check_futures(machine, most))
+
+    def test_rooms_onto_the_least_machine(self):
+        for at, machine in enumerate(DRAWN):
+            told = least(machine)
+            for other in (machine, told, shuffled(machine, at), doubled(machine, at % machine.size)):
+                goes = rooms_onto(other, told)
+                self.assertEqual(tuple(goes[room] for room in range(other.size)), futures(other))
+            others = [DRAWN[at - step] for step in (1, 2, 3) if DRAWN[at - step].letters == machine.letters]
+            for other in others:
+                self.assertEqual(rooms_onto(other, told) is not None, are_alike(other, machine))
+            # Other good rooms, and one door less, tell other languages.
+            for good in product((False, True), repeat=machine.size):
+                rooms = tuple(room for room in range(machine.size) if good[room])
+                other = machine_of(machine.letters, machine.doors, rooms)
+                self.assertEqual(rooms_onto(other, told) is not None, rooms == machine.good)
+        self.assertIsNone(rooms_onto(ALL, least(WEAVE)))
+        self.assertIsNone(rooms_onto(WEAVE, ALL))
 
     def test_more_than_24_rooms(self):
         wide = machine_of(2, tuple(((room + 1) % 400, room) for room in range(400)), tuple(range(0, 400, 200)))

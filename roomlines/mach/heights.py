@@ -31,21 +31,53 @@ def height_ways(machine):
     return [[]] + ways[1:], ways
 
 
+def _marks(ways, side):
+    """The list that has for each height of a side one more than its last letter; 0 for the height ()."""
+    at = 0 if side == "low" else -1
+    return [1 + pairs[at][0] if pairs else 0 for pairs in ways]
+
+
+def _edges(ways, marks, shift):
+    """The list of the pairs of a height and a height of which it is perhaps made, both shifted by a number."""
+    return [(shift + room, shift + source) for room, pairs in enumerate(ways)
+            for letter, source in pairs if letter + 1 == marks[room]]
+
+
+def _nearest(ranks, far, low_edges, high_edges):
+    """For each height the rank of the one of which it is made, in place of the far rank; 0 for the height ()."""
+    found = list(far)
+    for at, source in low_edges:
+        if ranks[source] < found[at]:
+            found[at] = ranks[source]
+    for at, source in high_edges:
+        if ranks[source] > found[at]:
+            found[at] = ranks[source]
+    return found
+
+
+def _ranked(keys):
+    """The list of the ranks of some keys, from 0 on."""
+    rank = {key: at for at, key in enumerate(sorted(set(keys)))}
+    return [rank[key] for key in keys]
+
+
 def ranks_back(low_ways, high_ways):
     """The lists of the ranks of all low and of all high heights with such ways back: the lesser one is ahead."""
-    low = [0] * len(low_ways)
-    high = [0] * len(high_ways)
+    low_marks = _marks(low_ways, "low")
+    high_marks = _marks(high_ways, "high")
+    cut = len(low_ways)
+    size = cut + len(high_ways)
+    low_edges = _edges(low_ways, low_marks, 0)
+    high_edges = _edges(high_ways, high_marks, cut)
+    far = [size if mark > 0 else 0 for mark in low_marks] + [-1 if mark > 0 else 0 for mark in high_marks]
+    ranks = _ranked(low_marks + high_marks)
     while True:
-        # After so many steps the ranks compare as many last letters; at last they compare all of them.
-        low_keys = _keys(low_ways, low, "low")
-        high_keys = _keys(high_ways, high, "high")
-        rank = {key: at for at, key in enumerate(sorted(set(low_keys + high_keys)))}
-        new_low = [rank[key] for key in low_keys]
-        new_high = [rank[key] for key in high_keys]
-        if new_low == low and new_high == high:
-            return low, high
-        low = new_low
-        high = new_high
+        # The ranks compare some last letters; with those of the heights ahead of the last letter, one more of them.
+        keys = [rank * size + near for rank, near in zip(ranks, _nearest(ranks, far, low_edges, high_edges))]
+        renewed = _ranked(keys)
+        if renewed == ranks:
+            return ranks[:cut], ranks[cut:]
+        ranks = renewed
 
 
 def height_ranks(machine):

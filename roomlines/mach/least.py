@@ -1,7 +1,10 @@
 """Least machines, and the words that part unlike machines and unlike rooms."""
 
 from roomlines.errors import InvalidMachine, InvalidOperation, Refused, TooMany
-from roomlines.mach.machines import check_machine, check_machines, check_rooms, first_ways, machine_of, rearranged
+from roomlines.mach.machines import check_machine, check_machines, check_rooms, machine_of
+
+# Up to so many futures, rounds through all rooms are quicker than rounds through those that can come apart.
+_FEW = 8
 
 
 def _completed(machine):
@@ -65,8 +68,33 @@ def _sorts(rows, flags, most):
     return None if len(members) > most else sorts
 
 
+def _first_of_few(machine, most):
+    """What _first_alike tells, found by rounds through all rooms."""
+    doors = machine.doors
+    size = len(doors)
+    columns = [list(range(size))] + list(zip(*doors))
+    sorts = {room: None for room in range(size)}
+    for room in machine.good:
+        sorts[room] = machine.good[0]
+    many = 0
+    while True:
+        # All that is missing is one room more, None, which is not good and does not lead to any other room.
+        sorts[None] = None
+        firsts = {(None,) * len(columns): None}
+        told = [[sorts[goal] for goal in column] for column in columns]
+        found = {room: firsts.setdefault(key, room) for room, key in enumerate(zip(*told))}
+        if len(firsts) > most + 1:
+            return None
+        if len(firsts) == many or len(firsts) > size:
+            return list(found.values())
+        many = len(firsts)
+        sorts = found
+
+
 def _first_alike(machine, most):
     """The list that has for each room the least room with its future, None for no future; None for too many futures."""
+    if most <= _FEW:
+        return _first_of_few(machine, most)
     rows, flags = _completed(machine)
     sorts = _sorts(rows, flags, most + 1)
     if sorts is None:
@@ -78,17 +106,32 @@ def _first_alike(machine, most):
     return [first[sorts[room]] for room in range(machine.size)]
 
 
+def _told_alike(machine, most):
+    """What _first_alike tells; TooMany for more than so many futures."""
+    first = _first_alike(machine, most)
+    if first is None:
+        raise TooMany(most)
+    return first
+
+
 def glued(machine, first):
     """The numbered machine in which each room is one with a room of its future, and the tuple of where the rooms go.
 
     The list tells for each room the least one with which it is one, so that all doors lead to one of those; and None
     for a room without a future.
     """
-    rows = [[None if goal is None else first[goal] for goal in row] for row in machine.doors]
-    sequence = list(first_ways(rows))
-    doors, good = rearranged(rows, machine.good, sequence)
-    place = {room: at for at, room in enumerate(sequence)}
-    return machine_of(machine.letters, doors, good), tuple([place.get(room) for room in first])
+    place = {0: 0}
+    rooms = [0]
+    rows = []
+    while len(rows) < len(rooms):
+        goals = [None if goal is None else first[goal] for goal in machine.doors[rooms[len(rows)]]]
+        for goal in goals:
+            if goal is not None and goal not in place:
+                place[goal] = len(rooms)
+                rooms.append(goal)
+        rows.append(tuple([place.get(goal) for goal in goals]))
+    good = sorted([place[room] for room in machine.good if room in place])
+    return machine_of(machine.letters, tuple(rows), tuple(good)), tuple([place.get(room) for room in first])
 
 
 def least_told(machine, most):
@@ -96,18 +139,48 @@ def least_told(machine, most):
 
     It raises Refused if there is no word in the language, and TooMany for more than so many rooms.
     """
-    first = _first_alike(machine, most)
-    if first is None:
-        raise TooMany(most)
+    first = _told_alike(machine, most)
     if first[0] is None:
         raise Refused(("empty",))
     return glued(machine, first)[0]
+
+
+def rooms_apart(machine, most):
+    """A machine of the language with one room for each future: the machine itself, if it is one, or the least one.
+
+    It raises TooMany for more than so many rooms.
+    """
+    first = _told_alike(machine, most)
+    return machine if first == list(range(machine.size)) else glued(machine, first)[0]
+
+
+def check_futures(machine, most):
+    """Raise TooMany if the rooms of the machine have more than so many futures."""
+    if machine.size > most:
+        _told_alike(machine, most)
 
 
 def least(machine):
     """The least machine of the language."""
     check_machine(machine)
     return glued(machine, _first_alike(machine, machine.size))[0]
+
+
+def rooms_onto(machine, small):
+    """The dict from each room of a machine to the room of its future in a least machine; None for unlike languages."""
+    goes = {None: None, 0: 0}
+    waiting = [0]
+    while waiting:
+        room = waiting.pop()
+        images = small.doors[goes[room]]
+        for goal, image in zip(machine.doors[room], images):
+            if goal not in goes and image is not None:
+                goes[goal] = image
+                waiting.append(goal)
+            elif goal not in goes or goes[goal] != image:
+                return None
+    good = [room for room in range(machine.size) if goes[room] in small.good]
+    return goes if tuple(good) == machine.good else None
 
 
 def futures(machine):

@@ -47,24 +47,36 @@ def first_ways(doors):
     return words
 
 
-def _ways(doors):
+def rooms_by_words(doors):
+    """The list of the rooms that are led to, in the order of their first words from the end."""
+    backwards = sorted([(word[::-1], room) for room, word in first_ways(doors).items()])
+    return [room for _, room in backwards]
+
+
+def ways_back(doors):
     """The list that has for each room the ascending list of the pairs (letter, room) of the doors to it."""
     ways = [[] for _ in doors]
-    for room, row in enumerate(doors):
-        for letter, goal in enumerate(row):
+    for letter, goals in enumerate(zip(*doors)):
+        for room, goal in enumerate(goals):
             if goal is not None:
                 ways[goal].append((letter, room))
-    return [sorted(pairs) for pairs in ways]
+    return ways
 
 
 def alive_rooms(doors, good):
     """The dict of the rooms from which some word leads to a good room."""
-    ways = _ways(doors)
     found = {room: True for room in good}
+    if len(found) == len(doors):
+        return found
+    sources = [[] for _ in doors]
+    for room, row in enumerate(doors):
+        for goal in row:
+            if goal is not None:
+                sources[goal].append(room)
     queue = list(good)
     while queue:
         goal = queue.pop()
-        for _, room in ways[goal]:
+        for room in sources[goal]:
             if room not in found:
                 found[room] = True
                 queue.append(room)
@@ -73,8 +85,9 @@ def alive_rooms(doors, good):
 
 def _least_missing(doors, found):
     """The least room that is not among the found ones; None if there is none."""
-    missing = [room for room in range(len(doors)) if room not in found]
-    return missing[0] if missing else None
+    if len(found) == len(doors):
+        return None
+    return [room for room in range(len(doors)) if room not in found][0]
 
 
 def check_ways(doors, good):
@@ -170,7 +183,7 @@ class Machine:
     def ways_in(self, room):
         """The ascending tuple of the pairs (letter, other room) of all doors that lead to the room."""
         check_room(self, room)
-        return tuple(_ways(self._doors)[room])
+        return tuple(ways_back(self._doors)[room])
 
     def __eq__(self, other):
         return (isinstance(other, Machine) and self._letters == other._letters
@@ -227,7 +240,7 @@ def room_behind(machine, room, word):
 
 def all_ways(machine):
     """The list that has for each room the ascending list of the pairs (letter, other room) of the doors to it."""
-    return _ways(machine.doors)
+    return ways_back(machine.doors)
 
 
 def is_room_tuple(machine, value):

@@ -3,7 +3,7 @@
 from roomlines.base.checks import has_all_once
 from roomlines.errors import InvalidLines, InvalidOperation, InvalidRooms, UnknownName
 from roomlines.mach.heights import height_ranks
-from roomlines.mach.machines import check_machine, is_room_tuple
+from roomlines.mach.machines import check_machine, is_room_tuple, rooms_by_words
 
 SIDES = ("early", "late")
 
@@ -42,10 +42,22 @@ def _full_sets(spans):
     return [crowd for crowd in crowds if len(crowd) == most]
 
 
+def _most_at_once(spans):
+    """The greatest number of rooms that share a place."""
+    ends = sorted([last for _, last in spans])
+    ended = 0
+    most = 0
+    for at, first in enumerate(sorted([first for first, _ in spans])):
+        while ends[ended] < first:
+            ended += 1
+        most = max(most, at + 1 - ended)
+    return most
+
+
 def line_number(machine):
     """The number of lines: the greatest number of rooms that are mixed two by two."""
     check_machine(machine)
-    return len(_full_sets(room_spans(machine))[0])
+    return _most_at_once(room_spans(machine))
 
 
 def lines(machine):
@@ -62,11 +74,24 @@ def lines(machine):
     return tuple([tuple(line) for line in made])
 
 
+def is_whole_line(machine, rooms):
+    """Whether each room of a sequence of all rooms is before the next one."""
+    # It is if the pairs of each room and a later one keep doors: if the room 0 is the first one, and the doors, letter
+    # by letter and in the sequence of the rooms that they come from, never lead back to an earlier room.
+    doors = machine.doors
+    place = {room: at for at, room in enumerate(rooms)}
+    goals = [doors[room][letter] for letter in range(machine.letters) for room in rooms]
+    spots = [place[goal] for goal in goals if goal is not None]
+    return rooms[0] == 0 and spots == sorted(spots)
+
+
 def are_lines(machine, value):
     """Whether the value is a choice of lines, however many."""
     check_machine(machine)
     if not has_all_once(value, machine.size):
         return False
+    if len(value) == 1:
+        return is_whole_line(machine, value[0])
     spans = room_spans(machine)
     return all([is_line_of(spans, line) for line in value])
 
@@ -133,9 +158,9 @@ def later_of(machine, rooms, further):
 def one_line_order(machine):
     """The line that has all rooms; None if there is none."""
     check_machine(machine)
-    spans = room_spans(machine)
-    line = tuple(_in_sequence(spans))
-    return line if is_line_of(spans, line) else None
+    # If there is one, any words to the rooms tell the sequence of these.
+    line = tuple(rooms_by_words(machine.doors))
+    return line if is_whole_line(machine, line) else None
 
 
 def _step_list(spans):

@@ -4,8 +4,8 @@ from roomlines.base.checks import is_number
 from roomlines.base.endless import count_agreeing, endless_of, order_heights
 from roomlines.base.words import is_spelled
 from roomlines.mach.heights import height_ways, heights_of, near_word, ranks_back
-from roomlines.mach.machines import all_ways, check_machine, room_behind
-from roomlines.ring.groups import edge_near, groups_round, ring_near
+from roomlines.mach.machines import check_machine, room_behind, ways_back
+from roomlines.ring.groups import edge_along, groups_round, near_ways, ring_along
 from roomlines.ring.tuples import check_few, check_turning, is_led_back, room_tuples
 
 SIDES = ("below", "above")
@@ -18,28 +18,27 @@ def _check_all(machine, rooms):
     check_few(machine)
 
 
-def _outer_rooms(machine, rounds, side):
-    """The dict from each of the groups that go round to the list of those of its rooms that no word shows on a side.
+def _outer_rooms(machine, rounds):
+    """The dict from each of the groups that go round to the lists of its rooms that no word shows below and above.
 
-    Below they have a low height that is not below the greatest ring word of the group, above a high height that is
-    not above its least one.
+    Those below have a low height that is not below the greatest ring word of the group, those above have a high
+    height that is not above its least one.
     """
-    groups, piece = rounds
+    groups, doors = rounds
+    size = machine.size
     low_ways, high_ways = height_ways(machine)
     # Heights and ring words are ranked together, so that no letters of them need to be compared.
-    if side == "below":
-        low, high = ranks_back(low_ways, all_ways(piece))
-        return {group: [room for room in group if low[room] >= high[at]] for at, group in enumerate(groups)}
-    low, high = ranks_back(all_ways(piece), high_ways)
-    return {group: [room for room in group if high[room] <= low[at]] for at, group in enumerate(groups)}
+    ring_ways = [[(letter, size + source) for letter, source in pairs] for pairs in ways_back(doors)]
+    low, high = ranks_back(low_ways + ring_ways, high_ways + ring_ways)
+    return {group: ([room for room in group if low[room] >= high[size + at]],
+                    [room for room in group if high[room] <= low[size + at]]) for at, group in enumerate(groups)}
 
 
-def _side_of(machine, rounds, rooms):
-    """The first side on which rooms that go round are entangled; None if there is none."""
-    for side in SIDES:
-        if not _outer_rooms(machine, rounds, side)[rooms]:
-            return side
-    return None
+def _side_of(outer):
+    """The first side on which rooms are entangled, by the lists of _outer_rooms; None if there is none."""
+    if not outer[0]:
+        return SIDES[0]
+    return None if outer[1] else SIDES[1]
 
 
 def are_entangled(machine, rooms):
@@ -48,24 +47,19 @@ def are_entangled(machine, rooms):
     if len(rooms) == 1:
         return True
     rounds = groups_round(machine, [rooms])
-    return rooms in rounds[0] and _side_of(machine, rounds, rooms) is not None
+    return rooms in rounds[0] and _side_of(_outer_rooms(machine, rounds)[rooms]) is not None
 
 
-def _ring_paper(machine, rooms, side):
+def _ring_paper(machine, rounds, rooms, side):
     """The paper of rooms that are entangled on a side."""
     heights = heights_of(machine, rooms, "low" if side == "below" else "high")
-    end = "high" if side == "below" else "low"
-    edge = edge_near(machine, rooms, end)
+    ways = near_ways(rounds, "high" if side == "below" else "low")
+    edge = edge_along(machine.letters, ways, rounds[0].index(rooms))
     # With one letter more than a height agrees in with the edge, a word is on the same side of it as the height;
     # and with as many letters of the edge at its end, so is the endless word of a ring in place of the edge.
     many = max([count_agreeing(height, edge) for height in heights]) + 1
     words = tuple([near_word(machine, room, height, many) for room, height in zip(rooms, heights)])
-    return "ring", ring_near(machine, rooms, end, many), side, words
-
-
-def _apart(machine, rounds, rooms):
-    """The paper of rooms that go round and are not entangled."""
-    return ("apart",) + tuple([_outer_rooms(machine, rounds, side)[rooms][0] for side in SIDES])
+    return "ring", ring_along(machine, rooms, rounds, ways, many), side, words
 
 
 def entangled_paper(machine, rooms):
@@ -76,8 +70,11 @@ def entangled_paper(machine, rooms):
     rounds = groups_round(machine, [rooms])
     if rooms not in rounds[0]:
         return ("still",)
-    side = _side_of(machine, rounds, rooms)
-    return _apart(machine, rounds, rooms) if side is None else _ring_paper(machine, rooms, side)
+    outer = _outer_rooms(machine, rounds)[rooms]
+    side = _side_of(outer)
+    if side is None:
+        return "apart", outer[0][0], outer[1][0]
+    return _ring_paper(machine, rounds, rooms, side)
 
 
 def _are_words_to(machine, rooms, value):
@@ -115,7 +112,17 @@ def is_entangled_paper(machine, rooms, value):
         return value == ("still",)
     if len(value) != 3 or not all([is_number(room, 0, machine.size - 1) for room in value[1:]]):
         return False
-    return _side_of(machine, rounds, rooms) is None and value == _apart(machine, rounds, rooms)
+    outer = _outer_rooms(machine, rounds)[rooms]
+    return _side_of(outer) is None and value == ("apart", outer[0][0], outer[1][0])
+
+
+def _entangled_of(machine, starts):
+    """The list of those of some tuples of at least two rooms that are entangled, in their sequence."""
+    rounds = groups_round(machine, starts)
+    if not rounds[0]:
+        return []
+    outer = _outer_rooms(machine, rounds)
+    return [rooms for rooms in starts if rooms in outer and _side_of(outer[rooms]) is not None]
 
 
 def entangled_tuples(machine):
@@ -123,18 +130,25 @@ def entangled_tuples(machine):
     check_machine(machine)
     check_few(machine)
     starts = [rooms for many in range(2, machine.size + 1) for rooms in room_tuples(machine.size, many)]
-    rounds = groups_round(machine, starts)
-    below, above = [_outer_rooms(machine, rounds, side) for side in SIDES]
-    for rooms in starts:
-        if rooms in below and (not below[rooms] or not above[rooms]):
-            yield rooms
+    yield from _entangled_of(machine, starts)
+
+
+def first_entangled(machine, many):
+    """The first tuple of so many entangled rooms, at least two, of a machine of few rooms; () if there is none."""
+    found = _entangled_of(machine, room_tuples(machine.size, many))
+    return found[0] if found else ()
 
 
 def entangled_rooms(machine):
     """The first one of the longest tuples of entangled rooms; () if there is none."""
-    found = list(entangled_tuples(machine))
-    # Shorter tuples come first, so the last one is as long as any.
-    return [rooms for rooms in found if len(rooms) == len(found[-1])][0] if found else ()
+    check_machine(machine)
+    check_few(machine)
+    rooms = ()
+    many = machine.size
+    while many > 1 and not rooms:
+        rooms = first_entangled(machine, many)
+        many -= 1
+    return rooms
 
 
 def entangled_number(machine):

@@ -5,7 +5,7 @@ round exactly if words lead it to itself as a whole, and of all tuples of its pi
 """
 
 from roomlines.mach.heights import deciding_ways, height_by
-from roomlines.mach.machines import all_ways, machine_of
+from roomlines.mach.machines import ways_back
 
 
 def _led_tuple(doors, rooms, letter):
@@ -50,9 +50,9 @@ def _later_groups(rows, bits):
 
 
 def groups_round(machine, starts):
-    """The list of the groups that go round, of those to which words lead some groups, and the machine they make.
+    """The list of the groups that go round, of those to which words lead some groups, and the rows of their doors.
 
-    The rooms of this machine are the groups, its doors are those along rings; it has no good rooms.
+    The doors are those along rings. They lead to groups that are told by their indices.
     """
     rows = _rows_from(machine, starts)
     bits = {group: 1 << at for at, group in enumerate(rows)}
@@ -63,21 +63,23 @@ def groups_round(machine, starts):
     for group in groups:
         along = [goal is not None and bits[group] & (bits[goal] | later[goal]) > 0 for goal in rows[group]]
         doors.append(tuple([place[goal] if there else None for goal, there in zip(rows[group], along)]))
-    return groups, machine_of(machine.letters, tuple(doors), ())
+    return groups, doors
 
 
-def edge_near(machine, rooms, side):
-    """The least endless word near some rooms, the greatest one for the high side; None if they do not go round."""
-    groups, piece = groups_round(machine, [rooms])
-    if rooms not in groups:
-        return None
-    doors = [pairs[0] for pairs in deciding_ways(all_ways(piece), side)]
-    return height_by(machine.letters, doors, groups.index(rooms))
+def near_ways(rounds, side):
+    """The list that has for each group that goes round the ways back along the endless word of a side near it."""
+    return deciding_ways(ways_back(rounds[1]), side)
 
 
-def _words_along(machine, rooms, groups, piece):
+def edge_along(letters, ways, at):
+    """The endless word that the ways back spell, beginning at the group with an index."""
+    return height_by(letters, [pairs[0] for pairs in ways], at)
+
+
+def _words_along(machine, rooms, rounds):
     """The dict from each tuple of the piece of rooms that go round to its first word, in the sequence of these."""
-    row = dict(zip(groups, piece.doors))
+    groups, doors = rounds
+    row = dict(zip(groups, doors))
     words = {rooms: ()}
     queue = [rooms]
     at = 0
@@ -97,8 +99,8 @@ def piece_words(machine, rooms):
 
     It is empty if the rooms do not go round.
     """
-    groups, piece = groups_round(machine, [rooms])
-    return _words_along(machine, rooms, groups, piece) if rooms in groups else {}
+    rounds = groups_round(machine, [rooms])
+    return _words_along(machine, rooms, rounds) if rooms in rounds[0] else {}
 
 
 def _tuple_ahead(doors, group, letter, rooms):
@@ -107,17 +109,17 @@ def _tuple_ahead(doors, group, letter, rooms):
     return tuple([source[room] for room in rooms])
 
 
-def ring_near(machine, rooms, side, many):
-    """A ring of rooms that go round with so many last letters of the endless word of a side near them."""
-    groups, piece = groups_round(machine, [rooms])
-    ways = dict(zip(groups, deciding_ways(all_ways(piece), side)))
-    words = _words_along(machine, rooms, groups, piece)
+def ring_along(machine, rooms, rounds, ways, many):
+    """A ring of rooms that go round with so many last letters of the endless word that the ways back spell."""
+    groups = rounds[0]
+    ways_of = dict(zip(groups, ways))
+    words = _words_along(machine, rooms, rounds)
     number = {told: at for at, told in enumerate(words)}
     spelled = []
     told = rooms
     for _ in range(many):
         found = [(letter, _tuple_ahead(machine.doors, groups[source], letter, told))
-                 for letter, source in ways[tuple(sorted(told))]]
+                 for letter, source in ways_of[tuple(sorted(told))]]
         # Several doors can spell the same letters; the first tuple of the piece is taken.
         letter, told = min(found, key=lambda pair: number[pair[1]])
         spelled.append(letter)

@@ -5,7 +5,7 @@ from roomlines.base.words import check_word, is_spelled
 from roomlines.errors import InvalidRooms, Refused, TooMany
 from roomlines.mach.machines import check_machine, room_behind
 from roomlines.order.lines import check_room_tuple
-from roomlines.ring.groups import edge_near, groups_round, piece_words
+from roomlines.ring.groups import edge_along, groups_round, near_ways, piece_words
 
 MOST_TURNING = 6
 
@@ -34,10 +34,10 @@ def _edge(machine, rooms, side):
     """The endless word of the side near the rooms, with the errors of greatest_ring."""
     check_turning(machine, rooms)
     check_few(machine)
-    height = edge_near(machine, rooms, side)
-    if height is None:
+    rounds = groups_round(machine, [rooms])
+    if rooms not in rounds[0]:
         raise Refused(("still",))
-    return height
+    return edge_along(machine.letters, near_ways(rounds, side), rounds[0].index(rooms))
 
 
 def is_led_back(machine, rooms, value):

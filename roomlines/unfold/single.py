@@ -3,11 +3,12 @@
 from roomlines.base.checks import check_number
 from roomlines.base.words import check_word, count_common, is_spelled, order_words
 from roomlines.errors import InvalidOperation, Refused
-from roomlines.mach.least import futures, parting_future
-from roomlines.mach.machines import beginnings, check_machine, first_words, machine_of, room_behind
-from roomlines.order.lines import line_number, one_line_order
+from roomlines.mach.least import futures, parting_future, rooms_onto
+from roomlines.mach.machines import beginnings, check_machine, first_words, machine_of, room_behind, rooms_by_words
+from roomlines.order.lines import one_line_order
 from roomlines.ring.entangled import entangled_rooms
-from roomlines.unfold.fewest import fewest_lines, fewest_machine, is_machine_like, least_of_few
+from roomlines.unfold.fewest import check_fold, fewest_folds, is_of_letters, least_of_few, rooms_of_few
+from roomlines.unfold.mixing import letters_to_one_line
 
 MAX_LISTED = 8
 MOST_LETTERS = 2000
@@ -15,18 +16,20 @@ MOST_LETTERS = 2000
 
 def has_one_line(machine):
     """Whether the language has a machine with one line."""
-    return fewest_lines(machine) == 1
+    return letters_to_one_line(rooms_of_few(machine)) is not None
 
 
-def _lots(machine):
-    """The list of the lots, each as a list of rooms, of a machine with one line."""
-    told = futures(machine)
+def _lots(pairs, doors):
+    """The list of the lots, each as a list of rooms, of an unfolded least machine with one line."""
     lots = []
-    for room in one_line_order(machine):
+    future = None
+    # Any words to the rooms tell the sequence of these on the line.
+    for room in rooms_by_words(doors):
         # Neighbours on the line with one future have no beginning with another one between them.
-        if lots and told[lots[-1][0]] == told[room]:
+        if pairs[room][0] == future:
             lots[-1].append(room)
         else:
+            future = pairs[room][0]
             lots.append([room])
     return lots
 
@@ -37,25 +40,35 @@ def single_machine(machine):
     rooms = entangled_rooms(small)
     if rooms:
         raise Refused(("entangled", rooms))
-    found = fewest_machine(machine)
-    lots = _lots(found)
+    pairs, rows = fewest_folds(small, letters_to_one_line(small))
+    lots = _lots(pairs, rows)
     place = {room: at for at, lot in enumerate(lots) for room in lot}
-    doors = tuple([tuple([place.get(goal) for goal in found.doors[lot[0]]]) for lot in lots])
-    good = tuple([at for at, lot in enumerate(lots) if lot[0] in found.good])
-    return machine_of(found.letters, doors, good)
+    doors = tuple([tuple([place.get(goal) for goal in rows[lot[0]]]) for lot in lots])
+    good = tuple([at for at, lot in enumerate(lots) if pairs[lot[0]][0] in small.good])
+    return machine_of(small.letters, doors, good)
 
 
 def single_number(machine):
     """The number of the lots; None if they are endlessly many."""
-    return single_machine(machine).size if has_one_line(machine) else None
+    small = rooms_of_few(machine)
+    many = letters_to_one_line(small)
+    if many is None:
+        return None
+    pairs, doors = fewest_folds(small, many)
+    return len(_lots(pairs, doors))
 
 
 def is_single_machine(machine, value):
     """Whether the value is a machine of the language with one line and as many rooms as lots."""
-    number = single_number(machine)
-    if number is None or not is_machine_like(machine, value):
+    small = rooms_of_few(machine)
+    many = letters_to_one_line(small)
+    if many is None:
         return False
-    return value.size == number and line_number(value) == 1
+    check_fold(small, many)
+    goes = rooms_onto(value, small) if is_of_letters(machine, value) else None
+    line = None if goes is None else one_line_order(value)
+    # Its rooms are the lots exactly if neighbours on its line never have one future.
+    return line is not None and all([goes[line[at - 1]] != goes[line[at]] for at in range(1, len(line))])
 
 
 def _beginning_rooms(machine, one, other):

@@ -1,7 +1,6 @@
 """Unfolded machines: rooms taken apart by the last letters of the words that lead to them."""
 
 from roomlines.base.checks import check_number
-from roomlines.base.endless import last_letters
 from roomlines.errors import InvalidOperation, TooMany
 from roomlines.mach.least import futures, glued
 from roomlines.mach.machines import check_machine, check_rooms, explored, machine_of
@@ -11,30 +10,49 @@ MAX_FOLD = 8
 MAX_UNFOLDED = 400
 
 
-def _behind(machine, told, letter, many):
+def _behind(doors, told, letter, many):
     """The pair of the room and of the last letters behind such a pair and a letter; None if a door is missing."""
     room, word = told
-    goal = machine.doors[room][letter]
-    return None if goal is None else (goal, last_letters(word + (letter,), many))
+    goal = doors[room][letter]
+    if goal is None:
+        return None
+    # A word that is shorter than the last letters is told by them whole, so it leads to a pair of its own.
+    further = word + (letter,)
+    return goal, further if len(further) <= many else further[1:]
 
 
 def _folds(machine, many):
     """The list of the pairs (room, last letters), and the doors between them; None for more than 400 pairs."""
-    # A word that is shorter than the last letters is told by them whole, so it leads to a pair of its own.
-    return explored(machine.letters, (0, ()), lambda told, letter: _behind(machine, told, letter, many), MAX_UNFOLDED)
+    doors = machine.doors
+    return explored(machine.letters, (0, ()), lambda told, letter: _behind(doors, told, letter, many), MAX_UNFOLDED)
 
 
-def _checked_folds(machine, many):
-    """The pairs and the doors between them, with the errors of unfolded."""
-    check_machine(machine)
-    check_number(many, 0, MAX_FOLD)
+def told_folds(machine, many):
+    """The pairs and the doors between them; TooMany for more than 400 pairs."""
     folds = _folds(machine, many)
     if folds is None:
         raise TooMany(MAX_UNFOLDED)
     return folds
 
 
-def _machine_of_folds(machine, folds):
+def check_folds(machine, many):
+    """Raise TooMany if there are more than 400 pairs."""
+    # Each room but the first one has a door from a room that is unfolded by one letter less.
+    most = machine.size
+    for _ in range(many):
+        most = 1 + machine.letters * most
+    if most > MAX_UNFOLDED:
+        told_folds(machine, many)
+
+
+def _checked_folds(machine, many):
+    """The pairs and the doors between them, with the errors of unfolded."""
+    check_machine(machine)
+    check_number(many, 0, MAX_FOLD)
+    return told_folds(machine, many)
+
+
+def machine_of_folds(machine, folds):
     """The unfolded machine of the pairs and the doors between them."""
     pairs, doors = folds
     good = [at for at, pair in enumerate(pairs) if pair[0] in machine.good]
@@ -43,7 +61,7 @@ def _machine_of_folds(machine, folds):
 
 def unfolded(machine, many):
     """The machine, unfolded by so many letters."""
-    return _machine_of_folds(machine, _checked_folds(machine, many))
+    return machine_of_folds(machine, _checked_folds(machine, many))
 
 
 def fold_rooms(machine, many):
@@ -65,7 +83,7 @@ def each_unfolded(machine):
         folds = _folds(machine, many)
         if folds is None:
             return
-        yield _machine_of_folds(machine, folds)
+        yield machine_of_folds(machine, folds)
 
 
 def _root(first, room):
